@@ -1,0 +1,1 @@
+"""Dotquilts: squares of dots that carry texts."""

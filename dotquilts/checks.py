@@ -1,0 +1,23 @@
+"""Questions about any values, whatever they are; none of them raises an error."""
+
+
+def is_number(thing):
+    """Whether a value is an integer: True and False are none."""
+    return isinstance(thing, int) and not isinstance(thing, bool)
+
+
+def is_number_to(thing, least, most):
+    """Whether a value is an integer from least to most."""
+    return is_number(thing) and least <= thing <= most
+
+
+def is_row(thing):
+    """Whether a value is a list or a tuple."""
+    return isinstance(thing, (list, tuple))
+
+
+def is_dot(thing, many):
+    """Whether a value is a dot of a square with so many rows and columns."""
+    if not isinstance(thing, tuple) or len(thing) != 2:
+        return False
+    return is_number_to(thing[0], 0, many - 1) and is_number_to(thing[1], 0, many - 1)

@@ -1,0 +1,200 @@
+"""Words of 4 or 8 bits, which are a field, and polynomials over them."""
+
+from dotquilts.checks import is_number, is_number_to, is_row
+from dotquilts.errors import NoField, NoWord
+
+# How many words there are, and what folds a double that is too great back.
+SPANS = {4: 16, 8: 256}
+FOLDS = {4: 9, 8: 113}
+
+
+class Field:
+    """All words of so many bits, with the powers of 2 laid out, for many products at a time."""
+
+    def __init__(self, bits):
+        self.span = SPANS[bits]
+        self.turn = self.span - 1
+        self.powers = powers_of_two(bits)
+        self.exponents = [0] * self.span
+        for times, word in enumerate(self.powers):
+            self.exponents[word] = times
+
+    def two_to(self, times):
+        """The power of the word 2."""
+        return self.powers[times % self.turn]
+
+    def times(self, one, other):
+        """The product of two words."""
+        if one == 0 or other == 0:
+            return 0
+        return self.powers[(self.exponents[one] + self.exponents[other]) % self.turn]
+
+    def over(self, one, other):
+        """The word whose product with other, which is not 0, is one."""
+        if one == 0:
+            return 0
+        return self.powers[(self.exponents[one] - self.exponents[other]) % self.turn]
+
+
+def doubled(bits, one):
+    """The double of a word."""
+    twice = 2 * one
+    if twice < SPANS[bits]:
+        return twice
+    return (twice - SPANS[bits]) ^ FOLDS[bits]
+
+
+def powers_of_two(bits):
+    """The powers of the word 2, from 0 on, before they begin anew."""
+    powers = [1]
+    while len(powers) < SPANS[bits] - 1:
+        powers.append(doubled(bits, powers[-1]))
+    return powers
+
+
+def word_product(bits, one, other):
+    """The product of two words, by doubling."""
+    total = 0
+    while other > 0:
+        if other & 1:
+            total ^= one
+        one = doubled(bits, one)
+        other >>= 1
+    return total
+
+
+def word_power(bits, one, times):
+    """The power of a word for times from 0 on, by squaring."""
+    total = 1
+    while times > 0:
+        if times & 1:
+            total = word_product(bits, total, one)
+        one = word_product(bits, one, one)
+        times >>= 1
+    return total
+
+
+def is_word(bits, thing):
+    """Whether a value is a word of 4 or 8 bits."""
+    return is_number_to(thing, 0, SPANS[bits] - 1)
+
+
+def need_field(bits):
+    """Refuse what is neither 4 nor 8."""
+    if not is_number(bits) or bits not in SPANS:
+        raise NoField(bits)
+
+
+def need_word(bits, part, thing):
+    """Refuse what is no word."""
+    if not is_word(bits, thing):
+        raise NoWord(part, -1)
+
+
+def need_words(bits, part, words):
+    """Refuse a row with an item that is no word."""
+    for at, word in enumerate(words):
+        if not is_word(bits, word):
+            raise NoWord(part, at)
+
+
+def need_polynomial(bits, part, words):
+    """Refuse what is no list or tuple of words."""
+    if not is_row(words):
+        raise NoWord(part, -1)
+    need_words(bits, part, words)
+
+
+def product(bits, one, other):
+    """The product of two words."""
+    need_field(bits)
+    need_word(bits, "one", one)
+    need_word(bits, "other", other)
+    return word_product(bits, one, other)
+
+
+def quotient(bits, one, other):
+    """The word whose product with other is one."""
+    need_field(bits)
+    need_word(bits, "one", one)
+    need_word(bits, "other", other)
+    if other == 0:
+        raise NoWord("other", -1)
+    # A power that ends one step ahead of the whole turn is the word's quotient from 1.
+    return word_product(bits, one, word_power(bits, other, SPANS[bits] - 2))
+
+
+def power(bits, one, times):
+    """The product of as many times one; for times below 0 its quotient from 1."""
+    need_field(bits)
+    need_word(bits, "one", one)
+    if not is_number(times) or (times < 0 and one == 0):
+        raise NoWord("times", -1)
+    if one == 0:
+        return 1 if times == 0 else 0
+    return word_power(bits, one, times % (SPANS[bits] - 1))
+
+
+def exponent(bits, one):
+    """The least integer from 0 on to which power 2 is one."""
+    need_field(bits)
+    need_word(bits, "one", one)
+    if one == 0:
+        raise NoWord("one", -1)
+    return powers_of_two(bits).index(one)
+
+
+def value_at(field, words, at):
+    """The value of a polynomial at a word."""
+    total = 0
+    for word in words:
+        total = field.times(total, at) ^ word
+    return total
+
+
+def all_products(field, one, other):
+    """The product of two polynomials."""
+    if not one or not other:
+        return []
+    total = [0] * (len(one) + len(other) - 1)
+    for shift, factor in enumerate(one):
+        for at, word in enumerate(other):
+            total[shift + at] ^= field.times(factor, word)
+    return total
+
+
+def long_division(field, words, other):
+    """The quotient and the remainder of two polynomials, of which other does not begin with 0."""
+    rest = list(words)
+    steps = max(len(words) - len(other) + 1, 0)
+    for shift in range(steps):
+        rest[shift] = field.over(rest[shift], other[0])
+        for at in range(1, len(other)):
+            rest[shift + at] ^= field.times(rest[shift], other[at])
+    return rest[:steps], rest[steps:]
+
+
+def value(bits, words, at):
+    """The sum of the words of a polynomial times the powers of at."""
+    need_field(bits)
+    need_polynomial(bits, "words", words)
+    need_word(bits, "at", at)
+    return value_at(Field(bits), words, at)
+
+
+def poly_product(bits, one, other):
+    """The product of two polynomials; [] if one of them has no words."""
+    need_field(bits)
+    need_polynomial(bits, "one", one)
+    need_polynomial(bits, "other", other)
+    return all_products(Field(bits), one, other)
+
+
+def divided(bits, words, other):
+    """The tuple of the quotient and the remainder of words by other."""
+    need_field(bits)
+    need_polynomial(bits, "words", words)
+    need_polynomial(bits, "other", other)
+    if not other or other[0] == 0:
+        raise NoWord("other", 0)
+    return long_division(Field(bits), words, other)

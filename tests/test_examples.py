@@ -1,0 +1,32 @@
+"""The examples of point 8, those behind point 14, and the blocks of "Examples" for the modules that there are."""
+
+import unittest
+
+from dotquilts.codes import (
+    check_words, is_twins, outcomes, repaired, rows_within, syndromes, twins, weights,
+)
+from dotquilts.fields import divided, exponent, product, quotient, value
+
+
+class Examples(unittest.TestCase):
+
+    def test_fields(self):
+        got = [product(4, 8, 2), quotient(4, 1, 2), exponent(4, 9), product(8, 128, 2), value(4, (1, 0, 3), 2),
+               divided(4, (1, 0, 3), (1, 2))]
+        self.assertEqual(repr(got), "[9, 12, 4, 113, 7, ([1, 2], [7])]")
+
+    def test_rows(self):
+        code = (4, 2, 0)
+        got = [check_words(code, (1,)), syndromes(code, (1, 3, 7)), repaired(code, (1, 3, 7)),
+               repaired(code, (None, 3, None)), rows_within(code, (1, 3, 0), 1)]
+        self.assertEqual(repr(got), "[[3, 2], [5, 5], ([1, 3, 2], (2,)), ([1, 3, 2], ()), [[1, 3, 2]]]")
+
+    def test_counts_and_twins(self):
+        code = (4, 2, 0)
+        got = [weights(code, 3), outcomes(code, 3, 2), twins(code, 3, 1, 0),
+               is_twins(code, 3, 1, 1, ((None, 3, 0), (0, 0, 0), (1, 3, 2)))]
+        self.assertEqual(repr(got), "[[1, 0, 0, 15], (0, 45, 630), None, True]")
+
+
+if __name__ == "__main__":
+    unittest.main()
