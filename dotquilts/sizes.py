@@ -89,35 +89,51 @@ def border_value(last, row, column):
     return 1 - ((last - row) // 2) % 2
 
 
+def border_dots(last):
+    """The list of all border dots, ascending."""
+    columns = range(last + 1)
+    edges = [(row, column) for row in range(1, last) for column in (0, last)]
+    return [(0, column) for column in columns] + edges + [(last, column) for column in columns]
+
+
 def border(size):
     """The dict from all border dots, ascending, to 0 or 1."""
     last = side(size) - 1
-    dots = [(row, column) for row in range(last + 1) for column in range(last + 1)]
-    return {dot: border_value(last, dot[0], dot[1]) for dot in dots if is_on_border(last, dot)}
+    return {dot: border_value(last, dot[0], dot[1]) for dot in border_dots(last)}
 
 
-def is_on_border(last, dot):
-    """Whether a dot is in the first or last row or column."""
-    return 0 in dot or last in dot
+def second_height(inner):
+    """How many rows the first strip leaves free in the columns where the second one stands."""
+    return inner - (STRIP + inner - 1) // inner
 
 
 def strips(size):
     """The list of the two strips of format dots, lists of dots."""
     last = side(size) - 1
-    by_rows = [(row, column) for row in range(1, last) for column in range(1, last)]
-    by_columns = [(row, column) for column in range(1, last) for row in range(last - 1, 0, -1)]
-    first = by_rows[:STRIP]
-    others = [dot for dot in by_columns if dot not in first]
-    return [first, others[:STRIP]]
+    inner = last - 1
+    height = second_height(inner)
+    first = [(1 + at // inner, 1 + at % inner) for at in range(STRIP)]
+    second = [(inner - at % height, 1 + at // height) for at in range(STRIP)]
+    return [first, second]
+
+
+def kind_at(last, row, column):
+    """Which kind of dot it is, in a symbol whose last row and column are `last`.
+
+    It is reckoned from the dot's own place, as many dots are asked for: no strip is laid out.
+    """
+    if row == 0 or column == 0 or row == last or column == last:
+        return "border"
+    inner = last - 1
+    if (row - 1) * inner + column <= STRIP:
+        return "format"
+    if (column - 1) * second_height(inner) + last - row <= STRIP:
+        return "format"
+    return "word"
 
 
 def kind_of(size, dot):
     """Which kind of dot it is: "border", "format" or "word"."""
     need_size(size)
     need_dot(size, dot)
-    if is_on_border(SIDES[size - 1] - 1, dot):
-        return "border"
-    first, second = strips(size)
-    if dot in first or dot in second:
-        return "format"
-    return "word"
+    return kind_at(SIDES[size - 1] - 1, dot[0], dot[1])

@@ -155,6 +155,21 @@ class Dots(Asking):
             self.assertEqual(counts["format"], 20)
             self.assertEqual(counts["word"], WORDS[size] * TABLE[size][1])
 
+    def test_changed_answers_change_no_later_kind(self):
+        for size in SIZES:
+            kinds = [kind_of(size, dot) for dot in all_dots(size)]
+            told = strips(size)
+            edge = border(size)
+            for strip in told:
+                strip.clear()
+            told.clear()
+            edge.clear()
+            self.assertEqual([kind_of(size, dot) for dot in all_dots(size)], kinds)
+
+    def test_borders_are_told_ascending(self):
+        for size in SIZES:
+            self.assertEqual(list(border(size)), sorted(border_as_told(size)))
+
 
 class Refusals(Asking):
 
