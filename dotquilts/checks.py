@@ -11,6 +11,11 @@ def is_number_to(thing, least, most):
     return is_number(thing) and least <= thing <= most
 
 
+def is_bit(thing):
+    """Whether a value is the integer 0 or 1."""
+    return is_number(thing) and 0 <= thing <= 1
+
+
 def is_row(thing):
     """Whether a value is a list or a tuple."""
     return isinstance(thing, (list, tuple))

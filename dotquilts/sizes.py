@@ -117,12 +117,17 @@ def strips(size):
     return [first, second]
 
 
+def is_on_border(last, row, column):
+    """Whether a dot is in the first or last row or column."""
+    return row == 0 or column == 0 or row == last or column == last
+
+
 def kind_at(last, row, column):
     """Which kind of dot it is, in a symbol whose last row and column are `last`.
 
     It is reckoned from the dot's own place, as many dots are asked for: no strip is laid out.
     """
-    if row == 0 or column == 0 or row == last or column == last:
+    if is_on_border(last, row, column):
         return "border"
     inner = last - 1
     if (row - 1) * inner + column <= STRIP:

@@ -4,6 +4,8 @@ import unittest
 
 from dotquilts.errors import NoWord, QuiltError
 
+GREAT = 10 ** 400
+
 
 def odd_values():
     """Objects of many built-in types and of the package, none of them an integer."""
@@ -18,6 +20,59 @@ def odd_values():
         NoWord("one", 4), NoWord, QuiltError, unittest, lambda: 4, property(), endless, (endless, 4), deep,
         "4" * 1000, ("4", "2", "0"), (None, None), (4, "2", 0), (True, True), (True, True, True),
     ]
+
+
+def no_rows():
+    """Objects that are neither lists nor tuples."""
+    return [thing for thing in odd_values() if not isinstance(thing, (list, tuple))]
+
+
+def numbers_beyond(least, most):
+    """Integers that are just outside of these, or far off."""
+    return [least - 1, least - 2, most + 1, most + 2, GREAT, -GREAT]
+
+
+def no_texts():
+    """Pairs of a value that is no text and the index that NoText is to tell of it."""
+    things = [thing for thing in odd_values() if not isinstance(thing, str)] + [0, 1, GREAT]
+    wrong = ["`", '"', "%", "\\", "\t", "\r", "\x00", "\x7f", "\u00e4", "\u0663", "\u00b2", "\u2028", "\ud800",
+             "\U0001f600"]
+    found = [(thing, -1) for thing in things]
+    for at, sign in enumerate(wrong):
+        found += [(sign, 0), ("aA0" * at + sign + "%`", 3 * at)]
+    return found + [("a" * 299 + "%", 299)]
+
+
+def no_dots(many):
+    """Values that are no dot of a square with so many rows and columns."""
+    found = odd_values() + [0, 4, GREAT, (0, 0, 0), (0,), [0, 0], [1, 1], "00", b"00", {0: 0, 1: 0}]
+    for number in odd_values() + [-1, many, many + 1, GREAT, -GREAT]:
+        found += [(number, 0), (0, number), (number, number), (3, number)]
+    return found
+
+
+def wrong_dots():
+    """Values that no dot of a grid has; None is one that is lost."""
+    return [thing for thing in odd_values() if thing is not None] + numbers_beyond(0, 1)
+
+
+def no_grids(grid):
+    """Triples of what is no grid, made of one that is, and the row and the column that NoGrid is to tell.
+
+    Behind the first thing that is wrong there are always others that are wrong, too.
+    """
+    many = len(grid)
+    rows = [list(dots) for dots in grid]
+    found = [(thing, -1, -1) for thing in odd_values() + [0, 8, [], (), rows[1:], rows + rows[:1], "0" * many]]
+    for at, thing in enumerate(odd_values() + [0, 1, (), [0] * (many - 1), [None] * (many + 1), "0" * many]):
+        row = at % many
+        found.append((rows[:row] + [thing] + [None] * (many - row - 1), row, -1))
+    for at, thing in enumerate(wrong_dots()):
+        row, column = at * 5 % many, at * 3 % many
+        dots = rows[row][:column] + [thing] + [2] * (many - column - 1)
+        found.append((rows[:row] + [dots] + [None] * (many - row - 1), row, column))
+        found.append((tuple(rows[:row] + [tuple(dots)] + [()] * (many - row - 1)), row, column))
+    return found
 
 
 def lists_of(thing):

@@ -1,4 +1,4 @@
-"""The examples of point 8, those behind point 14, and the blocks of "Examples" for the modules that there are."""
+"""The examples of points 8 and 20, those behind point 14, and the blocks of "Examples" for the modules there are."""
 
 import unittest
 
@@ -6,6 +6,9 @@ from dotquilts.codes import (
     check_words, is_twins, outcomes, repaired, rows_within, syndromes, twins, weights,
 )
 from dotquilts.fields import divided, exponent, product, quotient, value
+from dotquilts.fitting import data_row, least_size, most_signs
+from dotquilts.pieces import best_pieces, bits_of, least_bits
+from dotquilts.reading import readable, text_of
 
 
 class Examples(unittest.TestCase):
@@ -26,6 +29,16 @@ class Examples(unittest.TestCase):
         got = [weights(code, 3), outcomes(code, 3, 2), twins(code, 3, 1, 0),
                is_twins(code, 3, 1, 1, ((None, 3, 0), (0, 0, 0), (1, 3, 2)))]
         self.assertEqual(repr(got), "[[1, 0, 0, 15], (0, 45, 630), None, True]")
+
+    def test_texts(self):
+        got = (best_pieces("12a"), least_bits("A1"), readable(7), text_of([1, 0, 0, 0, 0, 0, 1, 0, 0, 1, 0, 1, 0]))
+        self.assertEqual(repr(got), "([(1, '12'), (3, 'a')], 18, 32, ('A', [(2, 'A')], 13))")
+        got = (best_pieces("A1"), least_bits("12a"), len(bits_of([(3, "12a")])))
+        self.assertEqual(repr(got), "([(2, 'A1')], 28, 28)")
+
+    def test_data(self):
+        got = (data_row("7", 1, 0), least_size("HELLO", 0), most_signs(1, 0, 1))
+        self.assertEqual(repr(got), "([0, 1, 0, 0, 0, 0, 1, 0, 1, 1, 1, 0], 2, 1)")
 
 
 if __name__ == "__main__":

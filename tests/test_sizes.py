@@ -6,9 +6,9 @@ from dotquilts.errors import NoDot, NoLevel, NoSize
 from dotquilts.sizes import (
     block_sizes, border, check_count, code_start, data_bits, data_count, kind_of, side, strips, word_bits, word_count,
 )
-from tests.asking import Asking, odd_values
+from tests import walking
+from tests.asking import GREAT, Asking, no_dots, odd_values
 
-GREAT = 10 ** 400
 SIZES = range(1, 6)
 LEVELS = range(4)
 
@@ -28,38 +28,6 @@ BY_SIZE = (side, word_bits, word_count, block_sizes, border, strips)
 BY_LEVEL = (check_count, code_start, data_count, data_bits)
 FIRST_STRIP_OF_ONE = [(1, 1), (1, 2), (1, 3), (1, 4), (1, 5), (1, 6), (2, 1), (2, 2), (2, 3), (2, 4)]
 SECOND_STRIP_OF_ONE = [(6, 1), (5, 1), (4, 1), (3, 1), (6, 2), (5, 2), (4, 2), (3, 2), (6, 3), (5, 3)]
-
-
-def all_dots(size):
-    many = TABLE[size][0]
-    return [(row, column) for row in range(many) for column in range(many)]
-
-
-def border_as_told(size):
-    """The border sentence by sentence; where two sentences meet they must agree."""
-    last = TABLE[size][0] - 1
-    found = {}
-    for at in range(last + 1):
-        told = (((at, 0), 1), ((last, at), 1), ((0, at), 1 if at % 2 == 0 else 0),
-                ((at, last), 1 if ((last - at) // 2) % 2 == 0 else 0))
-        for dot, worth in told:
-            if found.setdefault(dot, worth) != worth:
-                raise AssertionError(f"the border disagrees at {dot}")
-    return found
-
-
-def strips_as_told(size):
-    last = TABLE[size][0] - 1
-    first, second = [], []
-    for row in range(1, last):
-        for column in range(1, last):
-            if len(first) < 10:
-                first.append((row, column))
-    for column in range(1, last):
-        for row in reversed(range(1, last)):
-            if len(second) < 10 and (row, column) not in first:
-                second.append((row, column))
-    return [first, second]
 
 
 class Table(Asking):
@@ -102,7 +70,7 @@ class Table(Asking):
             edge = border(size)
             edge[(0, 0)] = 7
             del edge[(0, 1)]
-            self.assertEqual(border(size), border_as_told(size))
+            self.assertEqual(border(size), walking.border(size))
 
 
 class Dots(Asking):
@@ -110,7 +78,7 @@ class Dots(Asking):
     def test_borders(self):
         for size in SIZES:
             answer = border(size)
-            self.assert_same(answer, border_as_told(size))
+            self.assert_same(answer, walking.border(size))
             self.assertEqual(len(answer), 4 * TABLE[size][0] - 4)
 
     def test_border_of_size_one(self):
@@ -139,16 +107,16 @@ class Dots(Asking):
 
     def test_strips(self):
         for size in SIZES:
-            self.assert_same(strips(size), strips_as_told(size))
+            self.assert_same(strips(size), walking.strips(size))
         self.assert_same(strips(1), [FIRST_STRIP_OF_ONE, SECOND_STRIP_OF_ONE])
         self.assert_same(strips(2)[1], [(row, 1) for row in range(10, 1, -1)] + [(10, 2)])
 
     def test_kinds_of_all_dots(self):
         for size in SIZES:
-            edge = border_as_told(size)
-            first, second = strips_as_told(size)
+            edge = walking.border(size)
+            first, second = walking.strips(size)
             counts = {"border": 0, "format": 0, "word": 0}
-            for dot in all_dots(size):
+            for dot in walking.all_dots(size):
                 wanted = "border" if dot in edge else "format" if dot in first + second else "word"
                 self.assert_same(kind_of(size, dot), wanted)
                 counts[wanted] += 1
@@ -157,18 +125,18 @@ class Dots(Asking):
 
     def test_changed_answers_change_no_later_kind(self):
         for size in SIZES:
-            kinds = [kind_of(size, dot) for dot in all_dots(size)]
+            kinds = [kind_of(size, dot) for dot in walking.all_dots(size)]
             told = strips(size)
             edge = border(size)
             for strip in told:
                 strip.clear()
             told.clear()
             edge.clear()
-            self.assertEqual([kind_of(size, dot) for dot in all_dots(size)], kinds)
+            self.assertEqual([kind_of(size, dot) for dot in walking.all_dots(size)], kinds)
 
     def test_borders_are_told_ascending(self):
         for size in SIZES:
-            self.assertEqual(list(border(size)), sorted(border_as_told(size)))
+            self.assertEqual(list(border(size)), sorted(walking.border(size)))
 
 
 class Refusals(Asking):
@@ -193,10 +161,7 @@ class Refusals(Asking):
     def test_no_dot(self):
         for size in SIZES:
             many = TABLE[size][0]
-            dots = odd_values() + [0, 4, GREAT, (0, 0, 0), (0,), [0, 0], [1, 1], "00", b"00", {0: 0, 1: 0}]
-            for number in odd_values() + [-1, many, many + 1, GREAT, -GREAT]:
-                dots += [(number, 0), (0, number), (number, number), (3, number)]
-            for dot in dots:
+            for dot in no_dots(many):
                 self.assert_refused(NoDot, {"dot": dot}, kind_of, size, dot)
 
     def test_edges_of_sizes_and_levels(self):
