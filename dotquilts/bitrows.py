@@ -24,3 +24,9 @@ def bits_as_words(bits, many):
     """The list of the words that bits are, of which each has so many; None for a word with a bit that is None."""
     parts = [bits[at:at + many] for at in range(0, len(bits), many)]
     return [None if None in part else as_number(part) for part in parts]
+
+
+def ones(number):
+    """How many bits of a number from 0 on are set."""
+    text = f"{number:b}"
+    return text.count("1")

@@ -13,7 +13,7 @@ def is_number_to(thing, least, most):
 
 def is_bit(thing):
     """Whether a value is the integer 0 or 1."""
-    return is_number(thing) and 0 <= thing <= 1
+    return isinstance(thing, int) and not isinstance(thing, bool) and 0 <= thing <= 1
 
 
 def is_row(thing):

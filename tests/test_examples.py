@@ -8,7 +8,9 @@ from dotquilts.codes import (
 from dotquilts.fields import divided, exponent, product, quotient, value
 from dotquilts.fitting import data_row, least_size, most_signs
 from dotquilts.pieces import best_pieces, bits_of, least_bits
+from dotquilts.poses import poses, turned
 from dotquilts.reading import readable, text_of
+from dotquilts.symbols import read, symbol
 
 
 class Examples(unittest.TestCase):
@@ -39,6 +41,11 @@ class Examples(unittest.TestCase):
     def test_data(self):
         got = (data_row("7", 1, 0), least_size("HELLO", 0), most_signs(1, 0, 1))
         self.assertEqual(repr(got), "([0, 1, 0, 0, 0, 0, 1, 0, 1, 1, 1, 0], 2, 1)")
+
+    def test_symbols_and_poses(self):
+        s = symbol("7", size=1, level=0, mask=0)
+        got = [read(s), poses(turned(s, 1)), len(s), symbol("7", size=1, level=0, mask=0) == s]
+        self.assertEqual(repr(got), "[('7', 1, 0, 0, []), [(1, False)], 8, True]")
 
 
 if __name__ == "__main__":

@@ -1,0 +1,157 @@
+"""Symbols: drawing them for data words and for texts, and reading them back."""
+
+from dotquilts.bitrows import bits_as_words, words_as_bits
+from dotquilts.checks import is_row
+from dotquilts.codes import with_checks
+from dotquilts.errors import NoWord, TooLarge, Unmended, Unread
+from dotquilts.fields import Field, need_words
+from dotquilts.fitting import filled_row, least_size
+from dotquilts.formats import nearest_of, need_mask
+from dotquilts.grids import need_any_grid
+from dotquilts.masks import mask_chosen, masked_grid, with_format
+from dotquilts.paths import dealt_words, gathered_words, grid_of_words, words_on
+from dotquilts.pieces import need_text
+from dotquilts.reading import text_read
+from dotquilts.repairing import repaired_row
+from dotquilts.sizes import (
+    BLOCKS, CHECKS, SIDES, STARTS, WORD_BITS, data_count, is_on_border, need_level, need_size,
+)
+
+MOST_FILLED = 6
+
+
+def need_data(size, level, data):
+    """Refuse what is no list or tuple of all data words of a symbol."""
+    if not is_row(data) or len(data) != data_count(size, level):
+        raise NoWord("data", -1)
+    need_words(WORD_BITS[size - 1], "data", data)
+
+
+def words_of_data(size, level, data):
+    """The dealt words of the symbol with these data words."""
+    field = Field(WORD_BITS[size - 1])
+    checks = CHECKS[size - 1][level]
+    blocks = []
+    at = 0
+    for many in BLOCKS[size - 1]:
+        words = data[at:at + many - checks]
+        blocks.append(with_checks(field, checks, STARTS[size - 1][level], words))
+        at += many - checks
+    return dealt_words(size, level, blocks)
+
+
+def symbol_of(size, level, mask, data):
+    """The grid of the symbol with these data words."""
+    need_size(size)
+    need_level(level)
+    need_mask(mask)
+    need_data(size, level, data)
+    return with_format(size, level, mask, grid_of_words(size, words_of_data(size, level, data)))
+
+
+def symbol(text, *, size=None, level=0, mask=None):
+    """The grid of the symbol with a text, of the least size and with the best mask unless these are told."""
+    need_text(text)
+    if size is not None:
+        need_size(size)
+    need_level(level)
+    if mask is not None:
+        need_mask(mask)
+    if size is None:
+        # A text that no size has room for lacks bits as for the greatest one.
+        size = least_size(text, level) or len(SIDES)
+    data = bits_as_words(filled_row(text, size, level), WORD_BITS[size - 1])
+    words = words_of_data(size, level, data)
+    if mask is None:
+        mask = mask_chosen(size, level, words)
+    return with_format(size, level, mask, grid_of_words(size, words))
+
+
+def blocks_told(size, grid):
+    """The tuple of the level, the mask and the repaired blocks that a grid tells."""
+    nearest = nearest_of(size, grid)
+    if nearest is None:
+        raise Unmended("format", -1)
+    level, mask, _ = nearest
+    field = Field(WORD_BITS[size - 1])
+    blocks = []
+    for block, row in enumerate(gathered_words(size, level, words_on(size, masked_grid(size, grid, mask)))):
+        told = repaired_row(field, CHECKS[size - 1][level], STARTS[size - 1][level], row)
+        if told is None:
+            raise Unmended("block", block)
+        blocks.append(told[0])
+    return level, mask, blocks
+
+
+def data_of(size, level, blocks):
+    """The list of the data words of blocks."""
+    checks = CHECKS[size - 1][level]
+    return [word for block in blocks for word in block[:len(block) - checks]]
+
+
+def unlike_within(size, grid, other):
+    """The ascending list of the dots within the border at which two grids of a size are unlike."""
+    inner = range(1, SIDES[size - 1] - 1)
+    return [(row, column) for row in inner for column in inner if grid[row][column] != other[row][column]]
+
+
+def words_read(size, grid):
+    """What read_words tells of a grid, but for the size."""
+    level, mask, blocks = blocks_told(size, grid)
+    right = with_format(size, level, mask, grid_of_words(size, dealt_words(size, level, blocks)))
+    return level, mask, data_of(size, level, blocks), unlike_within(size, grid, right)
+
+
+def text_of_data(size, data):
+    """The text that data words are read to."""
+    return text_read(words_as_bits(data, WORD_BITS[size - 1]))[0]
+
+
+def read_words(grid):
+    """The tuple of size, level, mask, data words, and the dots that are lost or lie."""
+    size = need_any_grid(grid)
+    level, mask, data, wrong = words_read(size, grid)
+    return size, level, mask, data, wrong
+
+
+def read(grid):
+    """The tuple of text, size, level, mask, and the dots that are lost or lie."""
+    size = need_any_grid(grid)
+    level, mask, data, wrong = words_read(size, grid)
+    return text_of_data(size, data), size, level, mask, wrong
+
+
+def text_told(size, grid):
+    """The text that a grid is read to, None if it is refused."""
+    try:
+        level, _, blocks = blocks_told(size, grid)
+        return text_of_data(size, data_of(size, level, blocks))
+    except (Unmended, Unread):
+        return None
+
+
+def filled(grid, dots, number):
+    """The grid, of lists, with the bits of a number at some dots."""
+    found = [list(shades) for shades in grid]
+    for place, (row, column) in enumerate(dots):
+        found[row][column] = number >> place & 1
+    return found
+
+
+def fillings(grid):
+    """The list of tuples of each text, or None, and how many ways to fill the lost dots are read to it."""
+    size = need_any_grid(grid)
+    last = SIDES[size - 1] - 1
+    lost = [(row, column) for row, dots in enumerate(grid) for column, dot in enumerate(dots) if dot is None]
+    if len(lost) > MOST_FILLED:
+        raise TooLarge(MOST_FILLED)
+    # Border dots change no answer: whatever they are filled with, it is told once more.
+    within = [dot for dot in lost if not is_on_border(last, dot[0], dot[1])]
+    times = 1 << len(lost) - len(within)
+    counts = {}
+    for number in range(1 << len(within)):
+        text = text_told(size, filled(grid, within, number))
+        counts[text] = counts.get(text, 0) + times
+    refused = [(None, counts[None])] if None in counts else []
+    texts = sorted([told for told in counts if told is not None])
+    return refused + [(told, counts[told]) for told in texts]
