@@ -8,7 +8,7 @@ def is_number(thing):
 
 def is_number_to(thing, least, most):
     """Whether a value is an integer from least to most."""
-    return is_number(thing) and least <= thing <= most
+    return isinstance(thing, int) and not isinstance(thing, bool) and least <= thing <= most
 
 
 def is_bit(thing):

@@ -3,7 +3,9 @@
 from dotquilts.checks import is_number, is_number_to, is_row
 from dotquilts.counting import outcome_counts, weight_count
 from dotquilts.errors import NoCode, NoNumber, NoWord, TooLarge
-from dotquilts.fields import SPANS, Field, all_products, is_word, long_division, need_words
+from dotquilts.fields import SPANS, Field, is_word, need_words
+from dotquilts.listing import rows_near
+from dotquilts.making import with_checks
 from dotquilts.repairing import repaired_row, sums_of
 
 MOST_CHECKS = {4: 14, 8: 40}
@@ -58,7 +60,9 @@ def need_gapped_row(code, row):
     """Refuse what is no row of a code, with gaps or without."""
     if not is_row(row) or not is_length(code, len(row)):
         raise NoWord("row", -1)
-    need_words(code[0], "row", [0 if word is None else word for word in row])
+    for at, word in enumerate(row):
+        if word is not None and not is_word(code[0], word):
+            raise NoWord("row", at)
 
 
 def need_number(part, thing, least, most):
@@ -71,27 +75,6 @@ def need_length(code, length):
     """Refuse what is no number of words of a row."""
     if not is_length(code, length):
         raise NoNumber("length")
-
-
-def with_checks(field, many, start, words):
-    """The right row with these data words, a list."""
-    factor = [1]
-    for step in range(many):
-        factor = all_products(field, factor, [1, field.two_to(start + step)])
-    data = list(words)
-    return data + long_division(field, data + [0] * many, factor)[1]
-
-
-def right_rows(field, many, start, length):
-    """All right rows of a length, ascending."""
-    rows = [[0] * length]
-    for at in range(length - many):
-        data = [0] * (length - many)
-        data[at] = 1
-        unit = with_checks(field, many, start, data)
-        multiples = [[field.times(factor, word) for word in unit] for factor in range(field.span)]
-        rows = [[one ^ other for one, other in zip(row, more)] for row in rows for more in multiples]
-    return rows
 
 
 def unlike_words(row, other):
@@ -181,7 +164,7 @@ def rows_within(code, row, most):
     bits, many, start = code
     if (len(row) - many) * bits > MOST_LISTED:
         raise TooLarge(MOST_LISTED)
-    return [right for right in right_rows(Field(bits), many, start, len(row)) if unlike_words(row, right) <= most]
+    return rows_near(Field(bits), many, start, row, most)
 
 
 def weights(code, length):

@@ -2,6 +2,7 @@
 
 from dotquilts.checks import is_number, is_number_to, is_row
 from dotquilts.errors import NoField, NoWord
+from dotquilts.powers import EXPONENTS, POWERS
 
 # How many words there are, and what folds a double that is too great back.
 SPANS = {4: 16, 8: 256}
@@ -9,15 +10,15 @@ FOLDS = {4: 9, 8: 113}
 
 
 class Field:
-    """All words of so many bits, with the powers of 2 laid out, for many products at a time."""
+    """All words of so many bits, for many products at a time."""
 
     def __init__(self, bits):
+        self.bits = bits
         self.span = SPANS[bits]
         self.turn = self.span - 1
-        self.powers = powers_of_two(bits)
-        self.exponents = [0] * self.span
-        for times, word in enumerate(self.powers):
-            self.exponents[word] = times
+        # Twice, so that the sum of two exponents needs no division.
+        self.powers = POWERS[bits] * 2
+        self.exponents = EXPONENTS[bits]
 
     def two_to(self, times):
         """The power of the word 2."""
@@ -27,13 +28,22 @@ class Field:
         """The product of two words."""
         if one == 0 or other == 0:
             return 0
-        return self.powers[(self.exponents[one] + self.exponents[other]) % self.turn]
+        return self.powers[self.exponents[one] + self.exponents[other]]
 
     def over(self, one, other):
         """The word whose product with other, which is not 0, is one."""
         if one == 0:
             return 0
-        return self.powers[(self.exponents[one] - self.exponents[other]) % self.turn]
+        return self.powers[self.exponents[one] - self.exponents[other] + self.turn]
+
+    def multiple(self, words, factor):
+        """The list of the products of words with one word."""
+        if factor == 0:
+            return [0] * len(words)
+        powers = self.powers
+        exponents = self.exponents
+        shift = exponents[factor]
+        return [powers[exponents[word] + shift] if word else 0 for word in words]
 
 
 def doubled(bits, one):
@@ -42,14 +52,6 @@ def doubled(bits, one):
     if twice < SPANS[bits]:
         return twice
     return (twice - SPANS[bits]) ^ FOLDS[bits]
-
-
-def powers_of_two(bits):
-    """The powers of the word 2, from 0 on, before they begin anew."""
-    powers = [1]
-    while len(powers) < SPANS[bits] - 1:
-        powers.append(doubled(bits, powers[-1]))
-    return powers
 
 
 def word_product(bits, one, other):
@@ -141,7 +143,7 @@ def exponent(bits, one):
     need_word(bits, "one", one)
     if one == 0:
         raise NoWord("one", -1)
-    return powers_of_two(bits).index(one)
+    return EXPONENTS[bits][one]
 
 
 def value_at(field, words, at):
@@ -158,8 +160,8 @@ def all_products(field, one, other):
         return []
     total = [0] * (len(one) + len(other) - 1)
     for shift, factor in enumerate(one):
-        for at, word in enumerate(other):
-            total[shift + at] ^= field.times(factor, word)
+        for at, word in enumerate(field.multiple(other, factor)):
+            total[shift + at] ^= word
     return total
 
 
@@ -169,8 +171,8 @@ def long_division(field, words, other):
     steps = max(len(words) - len(other) + 1, 0)
     for shift in range(steps):
         rest[shift] = field.over(rest[shift], other[0])
-        for at in range(1, len(other)):
-            rest[shift + at] ^= field.times(rest[shift], other[at])
+        for at, word in enumerate(field.multiple(other[1:], rest[shift])):
+            rest[shift + 1 + at] ^= word
     return rest[:steps], rest[steps:]
 
 

@@ -33,8 +33,9 @@ def way_within(last):
     """All dots within a border, by pairs of columns from the right, up and down by turns."""
     found = []
     for right in range(last - 1, 0, -2):
-        up = (last - 1 - right) % 4 == 0
-        rows = range(last - 1, 0, -1) if up else range(1, last)
+        rows = list(range(1, last))
+        if (last - 1 - right) % 4 == 0:
+            rows.reverse()
         found.extend([(row, column) for row in rows for column in (right, right - 1)])
     return found
 

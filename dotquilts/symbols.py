@@ -2,12 +2,12 @@
 
 from dotquilts.bitrows import bits_as_words, words_as_bits
 from dotquilts.checks import is_row
-from dotquilts.codes import with_checks
 from dotquilts.errors import NoWord, TooLarge, Unmended, Unread
 from dotquilts.fields import Field, need_words
 from dotquilts.fitting import filled_row, least_size
 from dotquilts.formats import nearest_of, need_mask
 from dotquilts.grids import need_any_grid
+from dotquilts.making import with_checks
 from dotquilts.masks import mask_chosen, masked_grid, with_format
 from dotquilts.paths import dealt_words, gathered_words, grid_of_words, words_on
 from dotquilts.pieces import need_text

@@ -151,6 +151,20 @@ class Polynomials(Asking):
                 for other in polynomials:
                     self.assert_same(poly_product(bits, one, other), reckoning.poly_product(bits, one, other))
 
+    def test_products_of_single_words(self):
+        for bits in SPANS:
+            for one in words_of(bits):
+                for other in words_of(bits):
+                    if poly_product(bits, [one], [other]) != [TABLES[bits][one][other]]:
+                        self.fail((bits, one, other))
+
+    def test_quotients_of_single_words(self):
+        for bits in SPANS:
+            for one in words_of(bits):
+                for other in words_of(bits)[1:]:
+                    if divided(bits, [TABLES[bits][one][other]], [other]) != ([one], []):
+                        self.fail((bits, one, other))
+
     def test_products_keep_words_zero(self):
         self.assert_same(poly_product(4, (), (1, 2)), [])
         self.assert_same(poly_product(4, [1, 2], []), [])

@@ -210,6 +210,48 @@ class RowsWithin(Asking):
             row[4] = None
             self.check_rows(code, row, (0, 1, 2, 3))
 
+    def test_all_numbers_of_words(self):
+        """From 0 on to more than there are, for any rows and for such near right ones, with gaps and without."""
+        dice = random.Random(20)
+        codes = (((4, 14, 5), 15), ((4, 3, 0), 4), ((4, 13, 14), 15), ((4, 4, 6), 6), ((4, 2, 1), 5), ((4, 12, 8), 15),
+                 ((8, 3, 200), 4), ((8, 40, 17), 41))
+        for code, length in codes:
+            rights = reckoning.right_rows(code, length)
+            for lies, gaps in ((0, 0), (1, 0), (2, 1), (0, 2), (length, 0), (length, 1), (length, length - 1)):
+                row = list(dice.choice(rights))
+                for place in dice.sample(range(length), lies):
+                    row[place] = dice.randrange(SPANS[code[0]])
+                for place in dice.sample(range(length), gaps):
+                    row[place] = None
+                self.check_numbers(code, row, rights)
+
+    def check_numbers(self, code, row, rights):
+        far = [len(reckoning.unlike(row, right)) for right in rights]
+        for most in list(range(4)) + list(range(len(row) - 3, len(row) + 2)) + [GREAT]:
+            wanted = [right for right, many in zip(rights, far) if many <= most]
+            self.assertEqual(rows_within(code, row, most), wanted)
+
+    def test_gaps_among_the_data_words_and_elsewhere(self):
+        code = (4, 3, 9)
+        rights = reckoning.right_rows(code, 6)
+        for places in ((0,), (1,), (2,), (3,), (5,), (0, 1), (0, 2), (1, 2), (2, 4), (0, 1, 2), (3, 4, 5), (0, 1, 2, 5),
+                       (1, 2, 3, 5), (0, 1, 2, 3, 4, 5)):
+            row = list(rights[1234])
+            row[4] ^= 7
+            for place in places:
+                row[place] = None
+            self.check_numbers(code, row, rights)
+
+    def test_no_row_is_told_twice(self):
+        row = [3, 1, 4, 1]
+        for most in range(6):
+            got = rows_within((4, 1, 0), row, most)
+            self.assert_same(got, sorted(got))
+            self.assertEqual(len({tuple(right) for right in got}), len(got))
+        for right in got:
+            right.clear()
+        self.assertEqual(len(rows_within((4, 1, 0), row, 4)), 4096)
+
     def test_gaps_everywhere(self):
         for most in (0, 1, 3):
             self.assertEqual(rows_within(CODE, [None] * 3, most), reckoning.right_rows(CODE, 3))
