@@ -101,9 +101,9 @@ def stretches(text):
     return found
 
 
-def sizes_of_pieces():
-    """For each kind the list of the bits of pieces with 1 to 31 signs."""
-    return [[bits_needed(kind, many) for many in range(1, MOST_SIGNS + 1)] for kind in KINDS]
+def sizes_of_pieces(most):
+    """For each kind the list of the bits of pieces with 1 to 31 signs, but not with more than so many."""
+    return [[bits_needed(kind, many) for many in range(1, min(most, MOST_SIGNS) + 1)] for kind in KINDS]
 
 
 def best_steps(text):
@@ -112,7 +112,7 @@ def best_steps(text):
     From the back, so that each place finds what is best behind each piece that can begin there. A piece is
     told by its kind and its number of signs; it gives way to a later one only if this one saves bits.
     """
-    sizes = sizes_of_pieces()
+    sizes = sizes_of_pieces(len(text))
     runs = stretches(text)
     costs = [0] * (len(text) + 1)
     steps = [(0, 0)] * (len(text) + 1)
@@ -172,7 +172,7 @@ def counted_ways(text):
     all of them longer by a piece. Each count has a field of twice as many bits as the text has signs, and
     one: from n signs on there are fewer than 4 ** n lists, as behind each sign there is a new piece or none.
     """
-    sizes = sizes_of_pieces()
+    sizes = sizes_of_pieces(len(text))
     field = 2 * len(text) + 1
     behind = [0] * len(text) + [1]
     for at, runs in reversed(list(enumerate(stretches(text)))):

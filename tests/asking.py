@@ -102,7 +102,16 @@ class Asking(unittest.TestCase):
             self.assertEqual(got, wanted)
 
     def assert_refused(self, error, fields, call, *told, **named):
-        """The call raises just this error, with these fields: by name, kept as they are."""
+        """The call raises just this error, with these fields: by name, kept as they are.
+
+        What is told by position is told by name, too, in a second call.
+        """
+        self.check_refused_once(error, fields, call, told, named)
+        if told:
+            names = call.__code__.co_varnames[:len(told)]
+            self.check_refused_once(error, fields, call, (), {**dict(zip(names, told)), **named})
+
+    def check_refused_once(self, error, fields, call, told, named):
         with self.assertRaises(error) as caught:
             call(*told, **named)
         self.assertIs(type(caught.exception), error)
