@@ -16,6 +16,14 @@ def is_bit(thing):
     return isinstance(thing, int) and not isinstance(thing, bool) and 0 <= thing <= 1
 
 
+def are_plain_words(bits, things):
+    """Whether all items are plainly words of so many bits; what is none plainly has to be looked at more closely.
+
+    Nearly all rows are right, and found to be so at once.
+    """
+    return not [thing for thing in things if type(thing) is not int or thing >> bits]
+
+
 def is_row(thing):
     """Whether a value is a list or a tuple."""
     return isinstance(thing, (list, tuple))

@@ -1,6 +1,6 @@
 """Words of 4 or 8 bits, which are a field, and polynomials over them."""
 
-from dotquilts.checks import is_number, is_number_to, is_row
+from dotquilts.checks import are_plain_words, is_number, is_number_to, is_row
 from dotquilts.errors import NoField, NoWord
 from dotquilts.powers import EXPONENTS, POWERS
 
@@ -95,6 +95,8 @@ def need_word(bits, part, thing):
 
 def need_words(bits, part, words):
     """Refuse a row with an item that is no word."""
+    if are_plain_words(bits, words):
+        return
     for at, word in enumerate(words):
         if not is_word(bits, word):
             raise NoWord(part, at)

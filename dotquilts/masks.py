@@ -1,12 +1,15 @@
 """Masks: which dots they turn, how they look on a symbol, and the one with the least penalty."""
 
+from dotquilts.bitrows import words_as_bits
 from dotquilts.checks import is_dot
 from dotquilts.errors import NoDot
-from dotquilts.formats import MASKS, need_mask, shades_of_format
+from dotquilts.formats import need_mask, strip_shades
 from dotquilts.grids import need_grid, need_whole_grid
-from dotquilts.paths import grid_of_words, need_symbol_words, path_dots
-from dotquilts.penalties import penalties_of
-from dotquilts.sizes import SIDES, need_level, need_size
+from dotquilts.layouts import PLACES, STRIPS
+from dotquilts.maskings import MASK_SHADES, MASK_WORDS
+from dotquilts.paths import grid_of_words, need_symbol_words
+from dotquilts.penalties import cost_of, dark_dots, every_dot, penalties_of
+from dotquilts.sizes import SIDES, STRIP, WORD_BITS, need_level, need_size
 
 
 def by_sum(row, column):
@@ -61,14 +64,17 @@ def turns(mask, dot):
     return 1 if rule(dot[0], dot[1]) else 0
 
 
+def masked_words(size, mask, words):
+    """The dealt words with a mask on them, or taken off; lost ones stay lost."""
+    turned = MASK_WORDS[size - 1][mask]
+    return [None if word is None else word ^ turn for word, turn in zip(words, turned)]
+
+
 def masked_grid(size, grid, mask):
     """The grid, of lists, with its word dots turned by a mask; lost ones stay lost."""
-    rule = RULES[mask]
-    found = [list(dots) for dots in grid]
-    for row, column in path_dots(size):
-        if rule(row, column) and found[row][column] is not None:
-            found[row][column] = 1 - found[row][column]
-    return found
+    turned = words_as_bits(MASK_WORDS[size - 1][mask], WORD_BITS[size - 1]) + [0] * (2 * STRIP + 2)
+    return [[None if dot is None else dot ^ turned[place] for dot, place in zip(dots, places)]
+            for dots, places in zip(grid, PLACES[size - 1])]
 
 
 def masked(size, grid, mask):
@@ -91,12 +97,9 @@ def penalty(size, grid):
     return sum(penalty_parts(size, grid))
 
 
-def with_format(size, level, mask, grid):
-    """A grid with words, after its word dots are turned by the mask and its format dots laid."""
-    found = masked_grid(size, grid, mask)
-    for (row, column), bit in shades_of_format(size, level, mask):
-        found[row][column] = bit
-    return found
+def drawn_grid(size, level, mask, words):
+    """The grid of the symbol with these dealt words."""
+    return grid_of_words(size, masked_words(size, mask, words), strip_shades(level, mask))
 
 
 def drawn(size, level, mask, words):
@@ -105,13 +108,28 @@ def drawn(size, level, mask, words):
     need_level(level)
     need_mask(mask)
     need_symbol_words(size, words, False)
-    return with_format(size, level, mask, grid_of_words(size, words))
+    return drawn_grid(size, level, mask, words)
+
+
+def strip_pairs(many, strips):
+    """For each bit of a format both its dots, as one of the integers that penalties are reckoned of."""
+    shades = [1 << (many + 1) * (many - 1 - at // many) + many - 1 - at % many for at in strips]
+    return [one | other for one, other in zip(shades[:STRIP], shades[STRIP:])]
 
 
 def mask_chosen(size, level, words):
-    """The first mask with the least penalty of the symbol with these dealt words."""
-    grid = grid_of_words(size, words)
-    costs = [sum(penalties_of(with_format(size, level, mask, grid))) for mask in range(MASKS)]
+    """The first mask with the least penalty of the symbol with these dealt words.
+
+    The grid is laid once; each mask turns its dots, and sets those of its format, all at a time.
+    """
+    many = SIDES[size - 1]
+    plain = dark_dots(grid_of_words(size, words, [0] * (2 * STRIP)))
+    every = every_dot(many)
+    pairs = strip_pairs(many, STRIPS[size - 1])
+    costs = []
+    for mask, shades in enumerate(MASK_SHADES[size - 1]):
+        told = sum([pair for pair, bit in zip(pairs, strip_shades(level, mask)) if bit])
+        costs.append(sum(cost_of(plain ^ int(shades, 16) ^ told, every, many)))
     return costs.index(min(costs))
 
 

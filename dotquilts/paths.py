@@ -1,56 +1,29 @@
 """The path through the word dots of a symbol, the words on it, and how the words of the blocks are dealt."""
 
 from dotquilts.bitrows import bits_as_words, words_as_bits
-from dotquilts.checks import is_number_to, is_row
+from dotquilts.checks import are_plain_words, is_number_to, is_row
 from dotquilts.errors import NoBlock, NoIndex, NoWords
 from dotquilts.fields import is_word
-from dotquilts.grids import bordered, need_grid
-from dotquilts.sizes import (
-    BLOCKS, CHECKS, SIDES, WORD_BITS, is_on_border, need_dot, need_level, need_size, word_count,
-)
-
-# The way goes through all dots within the border. For each size from 1 on: which of its steps, counted from 0,
-# meet format dots, which the path passes by. With them a dot's place is told without the path that leads there.
-FORMAT_STEPS = (
-    (10, 11, 12, 13, 14, 15, 21, 23, 24, 25, 26, 27, 28, 29, 30, 31, 32, 33, 34, 35),
-    (18, 19, 20, 21, 58, 59, 60, 61, 80, 81, 83, 85, 87, 89, 91, 93, 95, 97, 98, 99),
-    (82, 83, 84, 85, 138, 139, 140, 141, 169, 171, 173, 175, 177, 179, 181, 183, 185, 187, 194, 195),
-    (178, 179, 180, 181, 250, 251, 252, 253, 289, 291, 293, 295, 297, 299, 301, 303, 305, 307, 322, 323),
-    (306, 307, 308, 309, 394, 395, 396, 397, 441, 443, 445, 447, 449, 451, 453, 455, 457, 459, 482, 483),
-)
+from dotquilts.grids import need_grid
+from dotquilts.layouts import PATHS, PLACES
+from dotquilts.sizes import BLOCKS, CHECKS, SIDES, STRIP, WORD_BITS, need_dot, need_level, need_size, word_count
 
 
 def need_symbol_words(size, words, gapped):
     """Refuse what is no row of all words of a symbol, some of which may be lost if it is gapped."""
     if not is_row(words) or len(words) != word_count(size):
         raise NoWords(-1)
+    if are_plain_words(WORD_BITS[size - 1], words):
+        return
     for at, word in enumerate(words):
         if not is_word(WORD_BITS[size - 1], word) and not (gapped and word is None):
             raise NoWords(at)
 
 
-def way_within(last):
-    """All dots within a border, by pairs of columns from the right, up and down by turns."""
-    found = []
-    for right in range(last - 1, 0, -2):
-        rows = list(range(1, last))
-        if (last - 1 - right) % 4 == 0:
-            rows.reverse()
-        found.extend([(row, column) for row in rows for column in (right, right - 1)])
-    return found
-
-
-def step_of(last, row, column):
-    """How many dots of the way are ahead of a dot within the border."""
-    pair, left = divmod(last - 1 - column, 2)
-    rows = last - 1 - row if pair % 2 == 0 else row - 1
-    return 2 * (pair * (last - 1) + rows) + left
-
-
 def path_dots(size):
     """The list of all word dots, in the order of the path."""
-    passed = set(FORMAT_STEPS[size - 1])
-    return [dot for step, dot in enumerate(way_within(SIDES[size - 1] - 1)) if step not in passed]
+    many = SIDES[size - 1]
+    return [divmod(at, many) for at in PATHS[size - 1]]
 
 
 def path(size):
@@ -72,21 +45,14 @@ def word_of(size, dot):
     """The tuple of the index of a word dot's word and its bit, counted from the highest; None for other dots."""
     need_size(size)
     need_dot(size, dot)
-    row, column = dot
-    last = SIDES[size - 1] - 1
-    if is_on_border(last, row, column):
-        return None
-    step = step_of(last, row, column)
-    passed = FORMAT_STEPS[size - 1]
-    if step in passed:
-        return None
-    place = step - len([other for other in passed if other < step])
-    return divmod(place, WORD_BITS[size - 1])
+    place = PLACES[size - 1][dot[0]][dot[1]]
+    return divmod(place, WORD_BITS[size - 1]) if place < len(PATHS[size - 1]) else None
 
 
 def words_on(size, grid):
     """The list of the words that stand in a grid, None for a word of which a dot is lost."""
-    return bits_as_words([grid[row][column] for row, column in path_dots(size)], WORD_BITS[size - 1])
+    shades = [dot for dots in grid for dot in dots]
+    return bits_as_words([shades[at] for at in PATHS[size - 1]], WORD_BITS[size - 1])
 
 
 def words_in(size, grid):
@@ -96,32 +62,36 @@ def words_in(size, grid):
     return words_on(size, grid)
 
 
-def grid_of_words(size, words):
-    """The grid with the border and these words, the format dots being lost."""
-    grid = bordered(size)
-    for (row, column), bit in zip(path_dots(size), words_as_bits(words, WORD_BITS[size - 1])):
-        grid[row][column] = bit
-    return grid
+def grid_of_words(size, words, strip_shades):
+    """The grid with the border, these words and these format dots, strip by strip."""
+    shades = words_as_bits(words, WORD_BITS[size - 1]) + strip_shades + [0, 1]
+    return [[shades[place] for place in places] for places in PLACES[size - 1]]
 
 
 def with_words(size, words):
     """The grid with the border and these words, the format dots being lost."""
     need_size(size)
     need_symbol_words(size, words, False)
-    return grid_of_words(size, words)
+    return grid_of_words(size, words, [None] * (2 * STRIP))
 
 
 def block_places(size, level):
-    """The list of the blocks, each the list of the indexes of its words among the dealt ones."""
+    """The list of the blocks, each the list of the indexes of its words among the dealt ones.
+
+    Block by block the words follow one another in steps; a block with a data word more than others have is among
+    the first ones, and these words stand behind all the other data words.
+    """
+    blocks = BLOCKS[size - 1]
+    many = len(blocks)
     checks = CHECKS[size - 1][level]
-    found = [[] for _ in BLOCKS[size - 1]]
-    index = 0
-    for lengths in ([many - checks for many in BLOCKS[size - 1]], [checks for _ in BLOCKS[size - 1]]):
-        for step in range(max(lengths)):
-            for block, length in enumerate(lengths):
-                if step < length:
-                    found[block].append(index)
-                    index += 1
+    own = min(blocks) - checks
+    longer = [block for block, words in enumerate(blocks) if words > min(blocks)]
+    found = []
+    for block in range(many):
+        more = [many * own + block] if block in longer else []
+        first_check = many * own + len(longer) + block
+        found.append(list(range(block, many * own, many)) + more
+                     + list(range(first_check, first_check + many * checks, many)))
     return found
 
 

@@ -1,9 +1,10 @@
 """Poses: turning and mirroring grids, and telling from the border how a grid lies."""
 
+from dotquilts.bitrows import ones
 from dotquilts.checks import is_number, is_number_to
 from dotquilts.errors import NoNumber, NoPose
-from dotquilts.grids import bordered, need_any_grid
-from dotquilts.sizes import SIDES, border_dots, need_size
+from dotquilts.grids import need_any_grid
+from dotquilts.sizes import SIDES, need_size
 
 TURNS = 4
 STRAIGHT = (0, False)
@@ -82,37 +83,73 @@ def unposed(grid, pose):
     return grid_unposed(grid, pose)
 
 
-def faults_of(size, grid):
-    """The ascending list of the border dots that are known and not as the border has them."""
-    right = bordered(size)
-    dots = border_dots(SIDES[size - 1] - 1)
-    return [(row, column) for row, column in dots if grid[row][column] not in (None, right[row][column])]
+def ring_of_border(last):
+    """The border as a text of 0 and 1, clockwise from the upper left, in a symbol with `last` rows behind the first.
+
+    Seen from the lower right, the right column is two dark dots and two light ones by turns.
+    """
+    return ("10" * last)[:last] + ("1100" * last)[last:0:-1] + "1" * (2 * last)
 
 
-def faults_in_poses(size, grid):
+def ring_of_grid(grid):
+    """The list of the border dots of a grid, clockwise from the upper left."""
+    right = [dots[-1] for dots in grid[:-1]]
+    left = [dots[0] for dots in grid[:0:-1]]
+    return list(grid[0][:-1]) + right + list(grid[-1][:0:-1]) + left
+
+
+def ring_mirrored(last, ring):
+    """A ring, clockwise again, after left and right were exchanged."""
+    return ring[last::-1] + ring[:last:-1]
+
+
+def ring_turned(last, ring, times):
+    """A ring turned by so many quarters to the right."""
+    begin = -times % TURNS * last
+    return ring[begin:] + ring[:begin]
+
+
+def dot_on_ring(last, at):
+    """The dot that stands at a place of a ring."""
+    edge, step = divmod(at, last)
+    return ((0, step), (step, last), (last, last - step), (last - step, 0))[edge]
+
+
+def faults_in_poses(grid):
     """For each pose, ascending, the number of border faults."""
-    return [len(faults_of(size, grid_unposed(grid, pose))) for pose in all_poses()]
+    last = len(grid) - 1
+    ring = ring_of_grid(grid)
+    dark = int("".join(["1" if dot else "0" for dot in ring]), 2)
+    seen = int("".join(["0" if dot is None else "1" for dot in ring]), 2)
+    right = ring_of_border(last)
+    sides = (right, ring_mirrored(last, right))
+    return [ones((int(ring_turned(last, sides[flip], turn), 2) ^ dark) & seen) for turn, flip in all_poses()]
 
 
 def border_faults(grid, pose):
     """The ascending list of the border dots of the straight grid that are known and not as they should be."""
-    size = need_any_grid(grid)
+    need_any_grid(grid)
     need_pose(pose)
-    return faults_of(size, grid_unposed(grid, pose))
+    last = len(grid) - 1
+    turn, flip = pose
+    ring = ring_turned(last, ring_of_grid(grid), -turn)
+    told = enumerate(zip(ring_mirrored(last, ring) if flip else ring, ring_of_border(last)))
+    wrong = [at for at, (dot, right) in told if dot is not None and dot != (right == "1")]
+    return sorted([dot_on_ring(last, at) for at in wrong])
 
 
 def poses(grid, *, most=0):
     """The ascending list of the poses with at most so many border faults."""
-    size = need_any_grid(grid)
+    need_any_grid(grid)
     if not is_number(most) or most < 0:
         raise NoNumber("most")
-    return [pose for pose, many in zip(all_poses(), faults_in_poses(size, grid)) if many <= most]
+    return [pose for pose, many in zip(all_poses(), faults_in_poses(grid)) if many <= most]
 
 
 def straight(grid):
     """The tuple of the pose with the fewest border faults and the straight grid; None if several have as few."""
-    size = need_any_grid(grid)
-    counts = faults_in_poses(size, grid)
+    need_any_grid(grid)
+    counts = faults_in_poses(grid)
     if counts.count(min(counts)) > 1:
         return None
     pose = all_poses()[counts.index(min(counts))]
@@ -122,5 +159,8 @@ def straight(grid):
 def pose_distance(size):
     """The least number of border dots at which the border of a size is unlike itself in another pose."""
     need_size(size)
-    right = bordered(size)
-    return min([len(faults_of(size, grid_posed(right, pose))) for pose in all_poses() if pose != STRAIGHT])
+    last = SIDES[size - 1] - 1
+    right = ring_of_border(last)
+    sides = (right, ring_mirrored(last, right))
+    return min([ones(int(right, 2) ^ int(ring_turned(last, sides[flip], turn), 2))
+                for turn, flip in all_poses() if (turn, flip) != STRAIGHT])

@@ -1,21 +1,20 @@
 """Symbols: drawing them for data words and for texts, and reading them back."""
 
-from dotquilts.bitrows import bits_as_words, words_as_bits
+from dotquilts.bitrows import as_bits, bits_as_words, words_as_bits
+from dotquilts.blocks import right_block, right_blocks
 from dotquilts.checks import is_row
 from dotquilts.errors import NoWord, TooLarge, Unmended, Unread
-from dotquilts.fields import Field, need_words
+from dotquilts.fields import need_words
 from dotquilts.fitting import filled_row, least_size
-from dotquilts.formats import nearest_of, need_mask
+from dotquilts.formats import need_mask, nearest_told, seen_strips, strip_dots, strip_shades
 from dotquilts.grids import need_any_grid
-from dotquilts.making import with_checks
-from dotquilts.masks import mask_chosen, masked_grid, with_format
-from dotquilts.paths import dealt_words, gathered_words, grid_of_words, words_on
+from dotquilts.layouts import PATHS
+from dotquilts.maskings import MASK_WORDS
+from dotquilts.masks import drawn_grid, mask_chosen, masked_words
+from dotquilts.paths import dealt_words, gathered_words, words_on
 from dotquilts.pieces import need_text
 from dotquilts.reading import text_read
-from dotquilts.repairing import repaired_row
-from dotquilts.sizes import (
-    BLOCKS, CHECKS, SIDES, STARTS, WORD_BITS, data_count, is_on_border, need_level, need_size,
-)
+from dotquilts.sizes import CHECKS, SIDES, WORD_BITS, data_count, is_on_border, need_level, need_size
 
 MOST_FILLED = 6
 
@@ -29,15 +28,7 @@ def need_data(size, level, data):
 
 def words_of_data(size, level, data):
     """The dealt words of the symbol with these data words."""
-    field = Field(WORD_BITS[size - 1])
-    checks = CHECKS[size - 1][level]
-    blocks = []
-    at = 0
-    for many in BLOCKS[size - 1]:
-        words = data[at:at + many - checks]
-        blocks.append(with_checks(field, checks, STARTS[size - 1][level], words))
-        at += many - checks
-    return dealt_words(size, level, blocks)
+    return dealt_words(size, level, right_blocks(size, level, data))
 
 
 def symbol_of(size, level, mask, data):
@@ -46,7 +37,7 @@ def symbol_of(size, level, mask, data):
     need_level(level)
     need_mask(mask)
     need_data(size, level, data)
-    return with_format(size, level, mask, grid_of_words(size, words_of_data(size, level, data)))
+    return drawn_grid(size, level, mask, words_of_data(size, level, data))
 
 
 def symbol(text, *, size=None, level=0, mask=None):
@@ -64,23 +55,29 @@ def symbol(text, *, size=None, level=0, mask=None):
     words = words_of_data(size, level, data)
     if mask is None:
         mask = mask_chosen(size, level, words)
-    return with_format(size, level, mask, grid_of_words(size, words))
+    return drawn_grid(size, level, mask, words)
 
 
-def blocks_told(size, grid):
-    """The tuple of the level, the mask and the repaired blocks that a grid tells."""
-    nearest = nearest_of(size, grid)
+def repaired_blocks(size, level, words):
+    """The list of the repaired blocks of the dealt words of a symbol, some of which are lost or lie."""
+    blocks = []
+    for block, row in enumerate(gathered_words(size, level, words)):
+        told = right_block(size, level, row)
+        if told is None:
+            raise Unmended("block", block)
+        blocks.append(told)
+    return blocks
+
+
+def symbol_told(size, grid):
+    """The tuple of the level, the mask, the words without the mask, and the repaired blocks that a grid tells."""
+    dark, seen = seen_strips(size, grid)
+    nearest = nearest_told(dark, seen)
     if nearest is None:
         raise Unmended("format", -1)
     level, mask, _ = nearest
-    field = Field(WORD_BITS[size - 1])
-    blocks = []
-    for block, row in enumerate(gathered_words(size, level, words_on(size, masked_grid(size, grid, mask)))):
-        told = repaired_row(field, CHECKS[size - 1][level], STARTS[size - 1][level], row)
-        if told is None:
-            raise Unmended("block", block)
-        blocks.append(told[0])
-    return level, mask, blocks
+    words = masked_words(size, mask, words_on(size, grid))
+    return level, mask, words, repaired_blocks(size, level, words)
 
 
 def data_of(size, level, blocks):
@@ -89,17 +86,32 @@ def data_of(size, level, blocks):
     return [word for block in blocks for word in block[:len(block) - checks]]
 
 
-def unlike_within(size, grid, other):
-    """The ascending list of the dots within the border at which two grids of a size are unlike."""
-    inner = range(1, SIDES[size - 1] - 1)
-    return [(row, column) for row in inner for column in inner if grid[row][column] != other[row][column]]
+def wrong_in_words(size, grid, mask, words, right):
+    """The list of the word dots of a grid that are not as the right words have them."""
+    bits = WORD_BITS[size - 1]
+    many = SIDES[size - 1]
+    found = []
+    for index, (word, wanted) in enumerate(zip(words, right)):
+        if word != wanted:
+            shades = as_bits(wanted ^ MASK_WORDS[size - 1][mask][index], bits)
+            for at, shade in zip(PATHS[size - 1][index * bits:(index + 1) * bits], shades):
+                if grid[at // many][at % many] != shade:
+                    found.append((at // many, at % many))
+    return found
+
+
+def wrong_in_strips(size, grid, level, mask):
+    """The list of the format dots of a grid that are not as a format has them."""
+    told = zip(strip_dots(size), strip_shades(level, mask))
+    return [(row, column) for (row, column), shade in told if grid[row][column] != shade]
 
 
 def words_read(size, grid):
     """What read_words tells of a grid, but for the size."""
-    level, mask, blocks = blocks_told(size, grid)
-    right = with_format(size, level, mask, grid_of_words(size, dealt_words(size, level, blocks)))
-    return level, mask, data_of(size, level, blocks), unlike_within(size, grid, right)
+    level, mask, words, blocks = symbol_told(size, grid)
+    wrong = wrong_in_words(size, grid, mask, words, dealt_words(size, level, blocks))
+    wrong = sorted(wrong + wrong_in_strips(size, grid, level, mask))
+    return level, mask, data_of(size, level, blocks), wrong
 
 
 def text_of_data(size, data):
@@ -124,7 +136,7 @@ def read(grid):
 def text_told(size, grid):
     """The text that a grid is read to, None if it is refused."""
     try:
-        level, _, blocks = blocks_told(size, grid)
+        level, _, _, blocks = symbol_told(size, grid)
         return text_of_data(size, data_of(size, level, blocks))
     except (Unmended, Unread):
         return None
