@@ -4,7 +4,7 @@ from dotquilts.bitrows import bits_as_words, words_as_bits
 from dotquilts.checks import is_row
 from dotquilts.errors import NoWords, TooLong
 from dotquilts.fields import is_word
-from dotquilts.pieces import best_steps, bits_of_piece, fewest_bits, need_kind, need_text, pieces_of
+from dotquilts.pieces import KIND_BITS, best_steps, bits_of_piece, fewest_bits, need_kind, need_text, pieces_of
 from dotquilts.reading import text_read
 from dotquilts.sizes import LEVELS, SIDES, WORD_BITS, data_bits, need_level, need_size
 
@@ -19,13 +19,25 @@ def filler(many):
     return [0] * min(many, 2) + [1 - at % 2 for at in range(many - 2)]
 
 
-def filled_row(text, size, level):
-    """The data of a symbol for a text."""
+def bits_of_text(text, size, level):
+    """The tuple of the bits of the best pieces of a text and of how many data bits are left behind them."""
     row = [bit for kind, part in pieces_of(text) for bit in bits_of_piece(kind, part)]
     left = data_bits(size, level) - len(row)
     if left < 0:
         raise TooLong(-left)
+    return row, left
+
+
+def filled_row(text, size, level):
+    """The data of a symbol for a text."""
+    row, left = bits_of_text(text, size, level)
     return row + filler(left)
+
+
+def pattern_of_text(text, size, level):
+    """The data bits that make a text of the data of a symbol, whatever stands behind them."""
+    row, left = bits_of_text(text, size, level)
+    return row + [0] * KIND_BITS if left >= KIND_BITS else row
 
 
 def data_row(text, size, level):

@@ -12,7 +12,14 @@ def is_plain_grid(many, grid):
     """
     if [dots for dots in grid if not isinstance(dots, (list, tuple)) or len(dots) != many]:
         return False
-    return not [dot for dots in grid for dot in dots if (type(dot) is not int or dot > 1 or dot < 0) and dot is not None]
+    odd = [dot for dots in grid for dot in dots if (type(dot) is not int or dot > 1 or dot < 0) and dot is not None]
+    return not odd
+
+
+def need_plain_dots(row, dots):
+    """Refuse a row in which an item is no dot; nearly all rows are right, and found to be so at once."""
+    if [dot for dot in dots if (type(dot) is not int or dot > 1 or dot < 0) and dot is not None]:
+        need_dots(row, dots, True)
 
 
 def need_dots(row, dots, gapped):

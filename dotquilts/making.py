@@ -40,3 +40,26 @@ def unit_rows(field, many, start, data):
         rests.append(next_rest(field, factor, rests[-1], 0))
     rests.reverse()
     return [[0] * at + [1] + [0] * (data - 1 - at) + rest for at, rest in enumerate(rests)]
+
+
+def unit_rows_within(field, many, start, length, places):
+    """For each of the places but the last ones, as many as there are check words, a right row of this length.
+
+    It is told by its words at the places, and is 0 at all others; it is 1 at its own place, and 0 at the others but
+    the last ones. So it has many + 1 words that may not be 0, and there is just one such row: at each place the word
+    is 1 by the product of the sums of its power of 2 with those of all others, but for the start.
+    """
+    exponents = field.exponents
+    powers = {place: field.two_to(length - 1 - place) for place in places}
+    own = places[:len(places) - many]
+    last = places[len(places) - many:]
+    shares = {place: start * (length - 1 - place) for place in places}
+    for place in last:
+        shares[place] += sum([exponents[powers[place] ^ powers[other]] for other in last if other != place])
+    found = []
+    for at, place in enumerate(own):
+        steps = [exponents[powers[place] ^ powers[other]] for other in last]
+        whole = shares[place] + sum(steps)
+        words = [field.two_to(whole - shares[other] - step) for other, step in zip(last, steps)]
+        found.append([0] * at + [1] + [0] * (len(own) - 1 - at) + words)
+    return found

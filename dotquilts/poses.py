@@ -109,6 +109,12 @@ def ring_turned(last, ring, times):
     return ring[begin:] + ring[:begin]
 
 
+def ring_posed(last, ring, pose):
+    """A ring in a pose: first mirrored, then turned."""
+    turn, flip = pose
+    return ring_turned(last, ring_mirrored(last, ring) if flip else ring, turn)
+
+
 def dot_on_ring(last, at):
     """The dot that stands at a place of a ring."""
     edge, step = divmod(at, last)
@@ -122,8 +128,7 @@ def faults_in_poses(grid):
     dark = int("".join(["1" if dot else "0" for dot in ring]), 2)
     seen = int("".join(["0" if dot is None else "1" for dot in ring]), 2)
     right = ring_of_border(last)
-    sides = (right, ring_mirrored(last, right))
-    return [ones((int(ring_turned(last, sides[flip], turn), 2) ^ dark) & seen) for turn, flip in all_poses()]
+    return [ones((int(ring_posed(last, right, pose), 2) ^ dark) & seen) for pose in all_poses()]
 
 
 def border_faults(grid, pose):
@@ -133,8 +138,10 @@ def border_faults(grid, pose):
     last = len(grid) - 1
     turn, flip = pose
     ring = ring_turned(last, ring_of_grid(grid), -turn)
-    told = enumerate(zip(ring_mirrored(last, ring) if flip else ring, ring_of_border(last)))
-    wrong = [at for at, (dot, right) in told if dot is not None and dot != (right == "1")]
+    if flip:
+        ring = ring_mirrored(last, ring)
+    right = ring_of_border(last)
+    wrong = [at for at, (dot, sign) in enumerate(zip(ring, right)) if dot is not None and dot != (sign == "1")]
     return sorted([dot_on_ring(last, at) for at in wrong])
 
 
@@ -161,6 +168,5 @@ def pose_distance(size):
     need_size(size)
     last = SIDES[size - 1] - 1
     right = ring_of_border(last)
-    sides = (right, ring_mirrored(last, right))
-    return min([ones(int(right, 2) ^ int(ring_turned(last, sides[flip], turn), 2))
-                for turn, flip in all_poses() if (turn, flip) != STRAIGHT])
+    return min([ones(int(right, 2) ^ int(ring_posed(last, right, pose), 2))
+                for pose in all_poses() if pose != STRAIGHT])

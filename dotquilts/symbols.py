@@ -114,6 +114,15 @@ def words_read(size, grid):
     return level, mask, data_of(size, level, blocks), wrong
 
 
+def words_told(size, grid):
+    """The tuple of the level, the mask and the list of the data words that a grid tells; None if it is refused."""
+    try:
+        level, mask, _, blocks = symbol_told(size, grid)
+        return level, mask, data_of(size, level, blocks)
+    except Unmended:
+        return None
+
+
 def text_of_data(size, data):
     """The text that data words are read to."""
     return text_read(words_as_bits(data, WORD_BITS[size - 1]))[0]
@@ -135,10 +144,12 @@ def read(grid):
 
 def text_told(size, grid):
     """The text that a grid is read to, None if it is refused."""
+    told = words_told(size, grid)
+    if told is None:
+        return None
     try:
-        level, _, _, blocks = symbol_told(size, grid)
-        return text_of_data(size, data_of(size, level, blocks))
-    except (Unmended, Unread):
+        return text_of_data(size, told[2])
+    except Unread:
         return None
 
 
