@@ -4,14 +4,14 @@ from dotquilts.bitrows import bits_as_words, words_as_bits
 from dotquilts.checks import is_row
 from dotquilts.errors import NoWords, TooLong
 from dotquilts.fields import is_word
-from dotquilts.pieces import KIND_BITS, best_steps, bits_of_piece, fewest_bits, need_kind, need_text, pieces_of
+from dotquilts.pieces import bits_of_text, fewest_bits, need_kind, need_text
+from dotquilts.ranks import needed_bits
 from dotquilts.reading import text_read
+from dotquilts.signs import KIND_BITS, LEAST_SIGN_BITS
 from dotquilts.sizes import LEVELS, SIDES, WORD_BITS, data_bits, need_level, need_size
 
 # For each kind from 1 on a sign of it that is of no lower kind: no texts of the kind need more bits than its.
 DEAREST = ("", "0", "A", "a")
-# No sign needs fewer bits than this.
-LEAST_SIGN_BITS = 3
 
 
 def filler(many):
@@ -19,9 +19,9 @@ def filler(many):
     return [0] * min(many, 2) + [1 - at % 2 for at in range(many - 2)]
 
 
-def bits_of_text(text, size, level):
+def fitted_bits(text, size, level):
     """The tuple of the bits of the best pieces of a text and of how many data bits are left behind them."""
-    row = [bit for kind, part in pieces_of(text) for bit in bits_of_piece(kind, part)]
+    row = bits_of_text(text)
     left = data_bits(size, level) - len(row)
     if left < 0:
         raise TooLong(-left)
@@ -30,13 +30,13 @@ def bits_of_text(text, size, level):
 
 def filled_row(text, size, level):
     """The data of a symbol for a text."""
-    row, left = bits_of_text(text, size, level)
+    row, left = fitted_bits(text, size, level)
     return row + filler(left)
 
 
 def pattern_of_text(text, size, level):
     """The data bits that make a text of the data of a symbol, whatever stands behind them."""
-    row, left = bits_of_text(text, size, level)
+    row, left = fitted_bits(text, size, level)
     return row + [0] * KIND_BITS if left >= KIND_BITS else row
 
 
@@ -85,7 +85,7 @@ def most_signs(size, level, kind):
     need_kind(kind)
     bits = data_bits(size, level)
     most = bits // LEAST_SIGN_BITS
-    costs = best_steps(DEAREST[kind] * most)[0]
+    costs = needed_bits(DEAREST[kind] * most)
     return max([many for many in range(most + 1) if costs[most - many] <= bits])
 
 

@@ -3,21 +3,10 @@
 from dotquilts.bitrows import as_bits
 from dotquilts.checks import is_number_to, is_row
 from dotquilts.errors import NoNumber, NoPieces, NoText
+from dotquilts.lists import ways_with
+from dotquilts.ranks import needed_bits, pieces_of
+from dotquilts.signs import GROUPS, KIND_BITS, KIND_SIGNS, KINDS, MANY_BITS, MOST_SIGNS, NUMBER_BITS, SIGNS, bits_needed
 
-# A sign is worth its place here.
-SIGNS = "0123456789ABCDEFGHIJKLMNOPQRSTUVWXYZ .,:-abcdefghijklmnopqrstuvwxyz!?'()/+*=;_#@&<>[]{}|~^$\n"
-
-# These have an item for each kind from 1 on, and none that counts for 0.
-KIND_SIGNS = (0, 10, 41, 92)
-GROUPS = (1, 3, 2, 1)
-# Behind the kind, each by the number of signs that are written as one number: its bits.
-NUMBER_BITS = ((0, 0), (0, 4, 7, 10), (0, 6, 11), (0, 7))
-
-KINDS = (1, 2, 3)
-KIND_BITS = 2
-MANY_BITS = 5
-HEAD_BITS = KIND_BITS + MANY_BITS
-MOST_SIGNS = 31
 MOST_BITS = 4000
 
 
@@ -57,12 +46,6 @@ def need_pieces(pieces):
             raise NoPieces(at)
 
 
-def bits_needed(kind, many):
-    """How many bits a piece with so many signs has."""
-    whole, left = divmod(many, GROUPS[kind])
-    return HEAD_BITS + whole * NUMBER_BITS[kind][GROUPS[kind]] + NUMBER_BITS[kind][left]
-
-
 def piece_bits(kind, many):
     """How many bits a piece of a kind with so many signs has."""
     need_kind(kind)
@@ -89,56 +72,9 @@ def bits_of(pieces):
     return [bit for kind, part in pieces for bit in bits_of_piece(kind, part)]
 
 
-def stretches(text):
-    """For each place of a text a list: for each kind how many signs from there on, 31 at most, are of it."""
-    found = []
-    runs = [0 for _ in KINDS]
-    for sign in reversed(text):
-        worth = SIGNS.index(sign)
-        runs = [min(runs[kind - 1] + 1, MOST_SIGNS) if worth < KIND_SIGNS[kind] else 0 for kind in KINDS]
-        found.append(runs)
-    found.reverse()
-    return found
-
-
-def sizes_of_pieces(most):
-    """For each kind the list of the bits of pieces with 1 to 31 signs, but not with more than so many."""
-    return [[bits_needed(kind, many) for many in range(1, min(most, MOST_SIGNS) + 1)] for kind in KINDS]
-
-
-def best_steps(text):
-    """Two lists: for each place of a text, and its end, the fewest bits from there on, and the first best piece.
-
-    From the back, so that each place finds what is best behind each piece that can begin there. A piece is
-    told by its kind and its number of signs; it gives way to a later one only if this one saves bits.
-    """
-    sizes = sizes_of_pieces(len(text))
-    runs = stretches(text)
-    costs = [0] * (len(text) + 1)
-    steps = [(0, 0)] * (len(text) + 1)
-    for at in range(len(text) - 1, -1, -1):
-        # No place needs more than a piece of kind 3 for its sign alone.
-        least = bits_needed(3, 1) + costs[at + 1] + 1
-        for kind, run in zip(KINDS, runs[at]):
-            behind = costs[at + 1:at + run + 1]
-            totals = [size + cost for size, cost in zip(sizes[kind - 1], behind)]
-            if totals and min(totals) < least:
-                least = min(totals)
-                steps[at] = (kind, totals.index(least) + 1)
-        costs[at] = least
-    return costs, steps
-
-
-def pieces_of(text):
-    """The first list of pieces with the fewest bits that come to a text."""
-    steps = best_steps(text)[1]
-    found = []
-    at = 0
-    while at < len(text):
-        kind, many = steps[at]
-        found.append((kind, text[at:at + many]))
-        at += many
-    return found
+def bits_of_text(text):
+    """The list of the bits of the best pieces of a text."""
+    return [bit for kind, part in pieces_of(text) for bit in bits_of_piece(kind, part)]
 
 
 def best_pieces(text):
@@ -149,7 +85,7 @@ def best_pieces(text):
 
 def fewest_bits(text):
     """How many bits the best pieces of a text have."""
-    return best_steps(text)[0][0]
+    return needed_bits(text)[0]
 
 
 def least_bits(text):
@@ -165,31 +101,9 @@ def is_best(pieces):
     return bits == fewest_bits("".join([part for _, part in pieces]))
 
 
-def counted_ways(text):
-    """For each number of bits, from 0 to the most that there are, how many lists of pieces come to a text.
-
-    The counts of all lists from one place on stand side by side in one large integer, so that one shift makes
-    all of them longer by a piece. Each count has a field of twice as many bits as the text has signs, and
-    one: from n signs on there are fewer than 4 ** n lists, as behind each sign there is a new piece or none.
-    """
-    sizes = sizes_of_pieces(len(text))
-    field = 2 * len(text) + 1
-    behind = [0] * len(text) + [1]
-    for at, runs in reversed(list(enumerate(stretches(text)))):
-        total = 0
-        for row, run in zip(sizes, runs):
-            for many in range(1, run + 1):
-                total += behind[at + many] << field * row[many - 1]
-        behind[at] = total
-    fields = bits_needed(3, 1) * len(text) + 1
-    mask = (1 << field) - 1
-    return [behind[0] >> field * bits & mask for bits in range(fields)]
-
-
 def ways(text, bits):
     """How many lists of pieces come to a text and have just so many bits."""
     need_text(text)
     if not is_number_to(bits, 0, MOST_BITS):
         raise NoNumber("bits")
-    counts = counted_ways(text)
-    return counts[bits] if bits < len(counts) else 0
+    return ways_with(text, bits)

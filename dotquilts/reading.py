@@ -3,12 +3,15 @@
 from dotquilts.bitrows import as_number
 from dotquilts.checks import is_bit, is_number_to, is_row
 from dotquilts.errors import NoBits, NoNumber, Unread
-from dotquilts.pieces import (
-    GROUPS, HEAD_BITS, KIND_BITS, KIND_SIGNS, KINDS, MOST_SIGNS, NUMBER_BITS, SIGNS, bits_needed, counted_ways,
-    need_text,
-)
+from dotquilts.lists import counted_ways
+from dotquilts.pieces import need_text
+from dotquilts.signs import GROUPS, HEAD_BITS, KIND_BITS, KIND_SIGNS, NUMBER_BITS, SIGNS, bits_needed
 
 MOST_COUNTED = 1000
+# How many texts there are of ten groups of three digits, of fifteen pairs of signs of kind 2, of 31 signs of kind 3.
+TEN_GROUPS = 10 ** 30
+FIFTEEN_PAIRS = 41 ** 30
+MOST_SMALL = 92 ** 31
 
 
 def need_bits(bits):
@@ -86,31 +89,43 @@ def text_of(bits):
     return text_read(bits)
 
 
-def parts_by_bits():
-    """The list of tuples of the bits of a piece and how many pieces of one kind and number of signs there are."""
-    found = []
-    for kind in KINDS:
-        parts = 1
-        for many in range(1, MOST_SIGNS + 1):
-            parts *= KIND_SIGNS[kind]
-            found.append((bits_needed(kind, many), parts))
-    return found
-
-
 def ended_rows(left):
     """How many rows of so many bits there are that have no more pieces."""
     return 1 << left - KIND_BITS if left >= KIND_BITS else 1 << left
 
 
+def readable_rows(many):
+    """How many of all rows of so many bits can be read.
+
+    Row by row of more bits: a row begins with a piece, and goes on with a row that can be read. The signs of a piece
+    are groups that follow one another, the last of them perhaps a smaller one. So what is behind some groups more is
+    told by what is behind some groups less; what is then behind too many groups is taken off.
+    """
+    # Each list begins with as many zeros as it is looked back at most: it is looked up by the bits of that.
+    rows = [0] * 217
+    digits, more_digits = [0] * 17, [0] * 11
+    capitals, more_capitals = [0] * 18, [0] * 13
+    signs = [0] * 14
+    for left in range(many + 1):
+        begun = 10 * (more_digits[left] + 10 * (digits[left + 3] + 10 * digits[left]))
+        begun += 41 * (more_capitals[left] + 41 * capitals[left]) + 92 * signs[left]
+        row = begun + (1 << left - KIND_BITS if left >= KIND_BITS else 1 << left)
+        # Behind ten, and behind nine groups of digits at most; then fifteen and fourteen pairs, and thirty signs.
+        behind = row + 1000 * digits[left + 7]
+        more_digits.append(behind)
+        digits.append(behind - TEN_GROUPS * rows[left + 117])
+        behind = row + 1681 * capitals[left + 7]
+        more_capitals.append(behind)
+        capitals.append(behind - FIFTEEN_PAIRS * rows[left + 52])
+        signs.append(row + 92 * signs[left + 7] - MOST_SMALL * rows[left])
+        rows.append(row)
+    return rows[-1]
+
+
 def readable(many):
     """How many of all rows of so many bits can be read."""
     need_many(many)
-    pieces = parts_by_bits()
-    rows = []
-    for left in range(many + 1):
-        begun = sum([parts * rows[left - size] for size, parts in pieces if size <= left])
-        rows.append(begun + ended_rows(left))
-    return rows[many]
+    return readable_rows(many)
 
 
 def rows_of(text, many):
