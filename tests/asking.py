@@ -5,6 +5,8 @@ import unittest
 from dotquilts.errors import NoWord, QuiltError
 
 GREAT = 10 ** 400
+# Stands for the thing that is asked for where an error is to tell it.
+THING = object()
 
 
 def odd_values():
@@ -76,10 +78,13 @@ def no_grids(grid):
 
 
 def lists_of(thing):
-    """All lists within a value, itself included."""
-    found = [thing] if isinstance(thing, list) else []
+    """All lists and dicts within a value, itself included."""
+    found = [thing] if isinstance(thing, (list, dict)) else []
     if isinstance(thing, (list, tuple)):
         for item in thing:
+            found.extend(lists_of(item))
+    elif isinstance(thing, dict):
+        for item in thing.values():
             found.extend(lists_of(item))
     return found
 
@@ -100,6 +105,12 @@ class Asking(unittest.TestCase):
                 self.assert_same(got[key], wanted[key])
         else:
             self.assertEqual(got, wanted)
+
+    def assert_each_refused(self, error, fields, call, things, *ahead):
+        """The call raises this error for each of the things, behind the arguments that are ahead."""
+        for thing in things:
+            self.assert_refused(error, {name: thing if wanted is THING else wanted for name, wanted in fields.items()},
+                                call, *ahead, thing)
 
     def assert_refused(self, error, fields, call, *told, **named):
         """The call raises just this error, with these fields: by name, kept as they are.
@@ -122,17 +133,23 @@ class Asking(unittest.TestCase):
             else:
                 self.assertIs(got, wanted)
 
-    def assert_asked_anew(self, call, *told):
-        """An answer holds no list that a later answer, or an argument, holds too."""
-        first = call(*told)
+    def assert_asked_anew(self, call, *told, **named):
+        """An answer holds no list or dict that a later answer, or an argument, holds too; no argument changes."""
+        asked = repr((told, named))
+        first = call(*told, **named)
         kept = repr(first)
-        second = call(*told)
-        others = lists_of(second) + lists_of(told)
+        second = call(*told, **named)
+        self.assertEqual(repr((told, named)), asked)
+        others = lists_of(second) + lists_of(told) + lists_of(list(named.values()))
         within = lists_of(first)
         for at, one in enumerate(within):
             self.assertFalse(any(one is other for other in others + within[:at]))
         for one in within:
-            one.append("more")
-            one.reverse()
+            if isinstance(one, dict):
+                one.clear()
+                one["more"] = 1
+            else:
+                one.append("more")
+                one.reverse()
         self.assertEqual(repr(second), kept)
-        self.assertEqual(repr(call(*told)), kept)
+        self.assertEqual(repr(call(*told, **named)), kept)
