@@ -1,16 +1,24 @@
-"""The examples of points 8 and 20, those behind point 14, and the blocks of "Examples" for the modules there are."""
+"""The examples of points 8 and 20, those behind points 14, 36, 57 and 72, and the blocks of "Examples"."""
 
 import unittest
 
 from dotquilts.codes import (
     check_words, is_twins, outcomes, repaired, rows_within, syndromes, twins, weights,
 )
+from dotquilts.distances import dot_weights, lightest, nearest_rows
+from dotquilts.errors import NoPicture
 from dotquilts.fields import divided, exponent, product, quotient, value
 from dotquilts.fitting import data_row, least_size, most_signs
+from dotquilts.misread import fate, is_misleading, least_lies
+from dotquilts.paths import path
+from dotquilts.pictures import drawing, ways_to_draw
 from dotquilts.pieces import best_pieces, bits_of, least_bits
 from dotquilts.poses import poses, turned
 from dotquilts.reading import readable, text_of
+from dotquilts.series import mixtures, mixtures_number, parity, parts
+from dotquilts.stains import borne, fitting_count, is_harmless, least_harmful
 from dotquilts.symbols import read, symbol
+from dotquilts.views import read_picture
 
 
 class Examples(unittest.TestCase):
@@ -41,6 +49,36 @@ class Examples(unittest.TestCase):
     def test_data(self):
         got = (data_row("7", 1, 0), least_size("HELLO", 0), most_signs(1, 0, 1))
         self.assertEqual(repr(got), "([0, 1, 0, 0, 0, 0, 1, 0, 1, 1, 1, 0], 2, 1)")
+
+    def test_codes_and_dots(self):
+        code, dots = (4, 2, 0), (0, 0, 0, 1, 0, 0, 1, 1, None, None, None, None)
+        got = [dot_weights(code, 3), lightest(code, 3), lightest(code, 3, within=(0, 2)), nearest_rows(code, dots)]
+        self.assertEqual(repr(got), "[[1, 0, 0, 0, 4, 0, 4, 0, 7, 0, 0, 0, 0], (4, [1, 3, 2]), None, (0, [[1, 3, 2]])]")
+
+    def test_wishes(self):
+        got = [drawing(1, 3, 0, {(0, 1): 1}), ways_to_draw(1, 3, 0, {(0, 1): 0})]
+        self.assertEqual(repr(got), "[('clash', [(0, 1)], []), 16]")
+
+    def test_stains(self):
+        got = [is_harmless(3, 0, path(3)[:32]), is_harmless(3, 0, path(3)[:33]), borne(2, 3, path(2)[:4]),
+               fitting_count(1, 3, path(1)), least_harmful(1, 0, "lying"), least_harmful(1, 0, "lost")]
+        self.assertEqual(repr(got), "[True, False, [(0, 4), (1, 3), (2, 2), (3, 1), (4, 0)], 16, [(2, 5)], [(2, 5), (3, 5)]]")
+        self.assertEqual(repr(borne(4, 2, [(0, 0), (19, 19)])), "[(0, 2), (1, 1), (2, 0)]")
+
+    def test_misreadings(self):
+        got = [fate(1, 0, 3, (1, 2, 3), [(2, 5)]), fate(1, 0, 3, (1, 2, 3), [(0, 0)]), least_lies(1, 0)[0],
+               is_misleading(1, 0, (1, 1, 0), [(3, 5), (5, 5)])]
+        self.assertEqual(repr(got), "[('refused',), ('right',), 2, True]")
+
+    def test_series(self):
+        got = (parts("0123456789ABCDEF", 2, 0), parity("AB"), mixtures(["a", "b"], ["b", "a"]))
+        self.assertEqual(repr(got), "(['0123456789', 'ABCDEF'], 1, ['ab', 'ba'])")
+        self.assertEqual([parts("", 3, 0), mixtures_number(["a", "b"], ["b", "a"])], [[""], 2])
+
+    def test_views(self):
+        with self.assertRaises(NoPicture) as caught:
+            read_picture(1, "########\n")
+        self.assertEqual(caught.exception.line, 1)
 
     def test_symbols_and_poses(self):
         s = symbol("7", size=1, level=0, mask=0)
