@@ -215,8 +215,9 @@ class LeastHarmful(Asking):
         too_many = CHECKS[size][level] + 1 if kind == "lost" else CHECKS[size][level] // 2 + 1
         block_at = staining.BLOCK_AT[size, level]
         for block in range(len(BLOCKS[size])):
-            words = {index for dot, index in staining.WORD_AT[size].items() if dot in begin and block_at[index] == block}
-            behind = {index for dot, index in staining.WORD_AT[size].items() if dot > last and block_at[index] == block}
+            here = [(dot, index) for dot, index in staining.WORD_AT[size].items() if block_at[index] == block]
+            words = {index for dot, index in here if dot in begin}
+            behind = {index for dot, index in here if dot > last}
             if len(words) + min(left, len(behind - words)) >= too_many:
                 return True
         for places in staining.UNLIKE[level]:

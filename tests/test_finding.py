@@ -128,8 +128,9 @@ class Found(Asking):
                 picture = blank(12 + 8 * scale, 11 + 8 * scale, 1)
                 lay(picture, place, SEVEN)
                 many = 8 * scale
+                inside = [(at, to) for at in range(5, 5 + many) for to in range(4, 4 + many)]
                 margin = [(at, to) for at in range(5 - scale, 5 + many + scale)
-                          for to in range(4 - scale, 4 + many + scale) if not (5 <= at < 5 + many and 4 <= to < 4 + many)]
+                          for to in range(4 - scale, 4 + many + scale) if (at, to) not in inside]
                 corners = [margin[0], margin[many + 2 * scale - 1], margin[-1], margin[-many - 2 * scale]]
                 self.assertTrue(stands(picture, place))
                 for at, to in corners + dice.sample(margin, 4):
@@ -169,8 +170,9 @@ class Found(Asking):
         for size in SIZES:
             for scale in (1, 2, 120 // SIDES[size]):
                 many = SIDES[size] * scale
-                for rows, columns, row, column in ((many, many, 0, 0), (min(many + 3, 120), many, min(3, 120 - many), 0),
-                                                   (many, min(many + 1, 120), 0, min(1, 120 - many))):
+                low, right = min(3, 120 - many), min(1, 120 - many)
+                for rows, columns, row, column in ((many, many, 0, 0), (many + low, many, low, 0),
+                                                   (many, many + right, 0, right)):
                     place = (row, column, size, scale) + dice.choice(POSES)
                     picture = blank(rows, columns)
                     lay(picture, place, random_symbol(size, dice))
@@ -314,7 +316,9 @@ class Errors(Asking):
     def test_no_picture(self):
         for thing, row, column in no_pictures():
             told = {"row": row, "column": column}
-            for call, behind in ((places, ()), (read_all, ()), (stands, (None,)), (cut, (None,)), (painted, (None, None))):
+            for call in (places, read_all):
+                self.assert_refused(NoGrid, told, call, thing)
+            for call, behind in ((stands, (None,)), (cut, (None,)), (painted, (None, None))):
                 self.assert_refused(NoGrid, told, call, thing, *behind)
 
     def test_no_place(self):

@@ -296,8 +296,9 @@ class Fates(Asking):
             self.assertEqual(told[many], (self.choose(40, many), 0, 0))
         first = [number for number, counts in enumerate(told) if counts[1]][0]
         self.assertEqual(first, least_lies(2, 3)[0])
-        self.assertEqual(sum(counts[0] for counts in told), sum(self.choose(10, words) * 15 ** words for words in range(5)))
-        self.assertEqual(sum(counts[1] for counts in told), 255 * sum(counts[0] for counts in told))
+        right = sum(self.choose(10, words) * 15 ** words for words in range(5))
+        self.assertEqual(sum(counts[0] for counts in told), right)
+        self.assertEqual(sum(counts[1] for counts in told), 255 * right)
         self.check_some(told, 5)
 
     def check_some(self, told, many):

@@ -146,7 +146,8 @@ class AllSizes(Asking):
         dice = random.Random(4)
         for size, level in SUMMED * 3:
             mask, wish, bits = random_question(size, level, dice, dice.choice((0, 0, 1)))
-            self.assert_same(ways_to_draw(size, level, mask, wish, bits=bits), summing.ways(size, level, mask, wish, bits))
+            ways = summing.ways(size, level, mask, wish, bits)
+            self.assert_same(ways_to_draw(size, level, mask, wish, bits=bits), ways)
             wanted = summing.sure_dots(size, level, mask, wish, bits)
             told = sure_dots(size, level, mask, wish, bits=bits)
             if wanted is None:
@@ -236,9 +237,10 @@ class CheckDrawing(Asking):
                             bits=bits)
 
     def test_answer(self):
-        for thing in odd_values() + [("data",), ("data", [0, 0, 0], []), ("clash", []), ("clash", [], [], []), ("clash",),
-                                     ["data", [0, 0, 0]], ["clash", [], []], ("Data", [0, 0, 0]), (b"data", [0, 0, 0]),
-                                     (0, [0, 0, 0]), ([], [], []), "ab", "abc", (("data",), [0, 0, 0]), ("", [])]:
+        wrong = [("data",), ("data", [0, 0, 0], []), ("clash", []), ("clash", [], [], []), ("clash",), ("", []),
+                 ["data", [0, 0, 0]], ["clash", [], []], ("Data", [0, 0, 0]), (b"data", [0, 0, 0]),
+                 (0, [0, 0, 0]), ([], [], []), "ab", "abc", (("data",), [0, 0, 0])]
+        for thing in odd_values() + wrong:
             self.refuse("answer", -1, thing)
 
     def test_data(self):

@@ -354,7 +354,8 @@ class Mixtures(Asking):
                 texts = ["a"] * (at % 7) + [thing, None]
                 told = {"which": "one", "index": at % 7}
                 self.assert_refused(NoParts, told, call, texts[:8], None)
-                self.assert_refused(NoParts, {"which": "other", "index": at % 7}, call, ["b"] * (at % 7 + 2), tuple(texts))
+                told = {"which": "other", "index": at % 7}
+                self.assert_refused(NoParts, told, call, ["b"] * (at % 7 + 2), tuple(texts))
             for thing in no_rows() + [0, [], (), ["a"], ("a",) * 3, ["a"] * 9, "ab"]:
                 self.assert_refused(NoParts, {"which": "other", "index": -1}, call, ["a", "b"], thing)
             for one, other in ((["a"], ["b"]), (("a", "b"), ["a", ""]), ([""], ["1"])):

@@ -5,8 +5,8 @@ import random
 from dotquilts.errors import NoLevel, NoPaper, NoSize, NoStain, Unmended
 from dotquilts.paths import path
 from dotquilts.stains import (
-    are_lookalikes, borne, check_harm, fitting_count, greatest_square, harm, harmful_squares, is_harmless, least_harmful,
-    lines_borne, lookalikes,
+    are_lookalikes, borne, check_harm, fitting_count, greatest_square, harm, harmful_squares, is_harmless,
+    least_harmful, lines_borne, lookalikes,
 )
 from dotquilts.symbols import read_words
 from tests import drawing, staining, walking

@@ -39,7 +39,8 @@ class Views(Asking):
             for at in range(many):
                 line = lines[at]
                 to = dice.randrange(many)
-                wrong = [line[:-1], line[1:], "#" + line, "", "\n", line[:-1] + "\r\n", line[:-1] + " \n", line[:-1] + "#"]
+                wrong = [line[:-1], line[1:], "#" + line, "", "\n"]
+                wrong += [line[:-1] + more for more in ("\r\n", " \n", "#")]
                 wrong += [line[:to] + sign + line[to + 1:] for sign in "x \n0_%\t\u0660\U0001f600"]
                 wrong += [line[:-1] + "\r", line[:-1] + "\u2028", line[:to] + "\n" + line[to:]]
                 for thing in wrong:
