@@ -45,7 +45,7 @@ def fate(size, level, mask, data, dots):
 def few_word_rows(size, level):
     """The list of all right rows of the first block with as few words other than 0 as a right row can have."""
     field = Field(WORD_BITS[size - 1])
-    many = CHECKS[size - 1][level]
+    many = int(CHECKS[size - 1][level])
     length = BLOCKS[size - 1][0]
     found = []
     for places in combinations(range(length), many + 1):

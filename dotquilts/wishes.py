@@ -9,10 +9,8 @@ from dotquilts.spans import Span
 
 
 def fixed_value(size, level, mask, dot):
-    """What a border or format dot is in all symbols of a format; None for a word dot."""
+    """What a border or format dot is in all symbols of a format."""
     step = PLACES[size - 1][dot[0]][dot[1]] - len(PATHS[size - 1])
-    if step < 0:
-        return None
     if step >= 2 * STRIP:
         return step - 2 * STRIP
     return word_of_format(level, mask) >> STRIP - 1 - step % STRIP & 1

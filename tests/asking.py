@@ -61,7 +61,7 @@ def wrong_dots():
 def no_grids(grid):
     """Triples of what is no grid, made of one that is, and the row and the column that NoGrid is to tell.
 
-    Behind the first thing that is wrong there are always others that are wrong, too.
+    Behind the first thing that is wrong there are others that are wrong, too, or none.
     """
     many = len(grid)
     rows = [list(dots) for dots in grid]
@@ -74,6 +74,9 @@ def no_grids(grid):
         dots = rows[row][:column] + [thing] + [2] * (many - column - 1)
         found.append((rows[:row] + [dots] + [None] * (many - row - 1), row, column))
         found.append((tuple(rows[:row] + [tuple(dots)] + [()] * (many - row - 1)), row, column))
+        # And where nothing else is wrong.
+        alone = rows[row][:column] + [thing] + rows[row][column + 1:]
+        found.append((rows[:row] + [alone] + rows[row + 1:], row, column))
     return found
 
 

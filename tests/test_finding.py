@@ -179,6 +179,22 @@ class Found(Asking):
                     self.assertIs(stands(picture, place), True)
                     self.assert_same(places(picture), [place])
 
+    def test_margins_at_the_edge_of_the_picture(self):
+        """The margin ends with the picture; what there is of it must be light, the first and the last lines, too."""
+        for row in (0, 1, 2):
+            for column in (0, 1, 2):
+                place = (row, column, 1, 2, 0, False)
+                picture = blank(row + 16 + row, column + 16 + column)
+                lay(picture, place, SEVEN)
+                self.assert_same(places(picture), [place])
+                for at in range(len(picture)):
+                    for to in range(len(picture[0])):
+                        if not (row <= at < row + 16 and column <= to < column + 16):
+                            picture[at][to] = 1
+                            self.assertIs(stands(picture, place), False)
+                            self.assert_same(places(picture), [])
+                            picture[at][to] = 0
+
     def test_great_pictures(self):
         dice = random.Random(4)
         picture = [[dice.choice((0, 1, None)) for _ in range(120)] for _ in range(120)]
@@ -308,6 +324,8 @@ def no_pictures():
         dots = good[:column] + [thing] + [7] * (2 - column)
         found.append(([good] * row + [dots, None], row, column))
         found.append(((tuple(good),) * row + (tuple(dots),), row, column))
+        alone = good[:column] + [thing] + good[column + 1:]
+        found.append(([good] * row + [alone] + [good] * 2, row, column))
     return found
 
 

@@ -178,7 +178,7 @@ class Counts(Asking):
 
     def test_rows_of_long_texts(self):
         dice = random.Random(6)
-        texts = ["", "0" * 60, "a" * 60] + ["".join(dice.choice("09AZ-az") for _ in range(many)) for many in (10, 59)]
+        texts = ["", "0" * 60, "A" * 60, "a" * 60] + ["".join(dice.choice("09AZ-az") for _ in range(many)) for many in (10, 59)]
         for text in texts:
             counts = writing.ways(text)
             for many in (0, 1, 2, min(counts) - 1, min(counts), min(counts) + 1, min(counts) + 2, min(counts) + 3,
