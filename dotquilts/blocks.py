@@ -2,7 +2,7 @@
 
 from dotquilts.bitrows import number_as_words, words_as_bits, words_as_number
 from dotquilts.fields import Field
-from dotquilts.repairing import repaired_row
+from dotquilts.repairing import mended_row, sums_of
 from dotquilts.shares import SHARES
 from dotquilts.sizes import BLOCKS, CHECKS, STARTS, WORD_BITS
 
@@ -48,12 +48,18 @@ def right_blocks(size, level, data):
 
 
 def right_block(size, level, row):
-    """The right row, a list, that a block with gaps is repaired to; None if it cannot be."""
+    """The right row, a list, that a block with gaps is repaired to; None if it cannot be.
+
+    A right row and the row have the same check words, but for the rest: so the rest alone has the sums of the row.
+    """
     checks = CHECKS[size - 1][level]
     bits = WORD_BITS[size - 1]
-    if None not in row:
-        own = len(row) - checks
-        if checks_told(size, level, row[:own]) == words_as_number(row[own:], bits):
-            return row
-    told = repaired_row(Field(bits), checks, STARTS[size - 1][level], row)
+    own = len(row) - checks
+    known = [word or 0 for word in row]
+    rest = checks_told(size, level, known[:own]) ^ words_as_number(known[own:], bits)
+    if rest == 0 and None not in row:
+        return row
+    field = Field(bits)
+    start = STARTS[size - 1][level]
+    told = mended_row(field, start, row, sums_of(field, checks, start, number_as_words(rest, checks, bits)))
     return None if told is None else told[0]

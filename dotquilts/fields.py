@@ -150,9 +150,14 @@ def exponent(bits, one):
 
 def value_at(field, words, at):
     """The value of a polynomial at a word."""
+    if at == 0:
+        return words[-1] if words else 0
+    powers = field.powers
+    exponents = field.exponents
+    shift = exponents[at]
     total = 0
     for word in words:
-        total = field.times(total, at) ^ word
+        total = powers[exponents[total] + shift] ^ word if total else word
     return total
 
 

@@ -69,14 +69,15 @@ def wrong_words(field, places, heads):
     return shares
 
 
-def repaired_row(field, many, start, row):
-    """The right row within the bound and the indexes of the words that lie; None if there is no such row."""
+def mended_row(field, start, row, sums):
+    """The right row within the bound and the indexes of the words that lie; None if there is no such row.
+
+    The sums are those of the row with 0 in its gaps, as many as there are check words.
+    """
     gaps = [at for at, word in enumerate(row) if word is None]
-    if len(gaps) > many:
+    if len(gaps) > len(sums):
         return None
     places = [field.two_to(len(row) - 1 - at) for at in range(len(row))]
-    found = [0 if word is None else word for word in row]
-    sums = sums_of(field, many, start, found)
     heads, sums = heads_and_rest(field, sums, [places[at] for at in gaps])
     rule = shortest_rule(field, sums)
     lying = [at for at, word in enumerate(row) if word is not None and value_at(field, rule, places[at]) == 0]
@@ -86,7 +87,14 @@ def repaired_row(field, many, start, row):
     # Sums that are left over come from words elsewhere: then the lying words are more than can be told.
     if any(rest):
         return None
+    found = [0 if word is None else word for word in row]
     wrong = gaps + lying
     for at, share in zip(wrong, wrong_words(field, [places[at] for at in wrong], heads + more)):
         found[at] ^= field.over(share, field.two_to((len(row) - 1 - at) * start))
     return found, tuple(lying)
+
+
+def repaired_row(field, many, start, row):
+    """The right row within the bound and the indexes of the words that lie; None if there is no such row."""
+    known = [0 if word is None else word for word in row]
+    return mended_row(field, start, row, sums_of(field, many, start, known))
